@@ -1,0 +1,1 @@
+"""Borderwords: what words about where lands lie say, together."""
