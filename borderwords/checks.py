@@ -22,6 +22,12 @@ def turned_word(word):
     return TURNED.get(word, word)
 
 
+def require_word(value, part):
+    """Raise BadWord for what is none of the eight words."""
+    if not is_word(value):
+        raise BadWord(part)
+
+
 def is_integer(value):
     """Whether any value is an integer; True and False are none."""
     return isinstance(value, int) and not isinstance(value, bool)

@@ -6,8 +6,11 @@ import pathlib
 import random
 import unittest
 
+from borderwords.errors import BadText
+
 EXAMPLES = pathlib.Path(__file__).resolve().parent / "examples"
-SECTIONS = ("errors checks papers regions worlds looks alikes check_alikes sayings").split()
+SECTIONS = ("errors checks papers regions worlds looks alikes check_alikes sayings books borders possible "
+            "check_possible maps tables widened closing listed").split()
 EIGHT = ("apart", "meets", "overlaps", "same", "deep", "rim", "holdsdeep", "holdsrim")
 LANDS = ("a", "b", "c", "d", "e")
 
@@ -128,10 +131,8 @@ def keeps_by_definition(rows, text):
     """Whether these rows keep the saying with this text."""
     if text.startswith("! "):
         return not any(over(text[2:], cell) for row in rows for cell in row)
-    items = text.split(" ")
-    at = [place for place, item in enumerate(items) if item.split("|")[0] in EIGHT][0]
-    word = word_by_definition(rows, " ".join(items[:at]), " ".join(items[at + 1:]))
-    return word in items[at].split("|")
+    x, words, y = says_parts(text)
+    return word_by_definition(rows, x, y) in words
 
 
 def some_rows(chance, lands, most_rows=3, most_cells=5):
@@ -154,3 +155,171 @@ def some_region_text(chance, lands, depth=2):
 def chances(number):
     """A source of values that is the same in each run."""
     return random.Random(number)
+
+
+def says_parts(text):
+    """The texts of the two regions of a Says, and its words between."""
+    items = text.split(" ")
+    at = [place for place, item in enumerate(items) if item.split("|")[0] in EIGHT][0]
+    return " ".join(items[:at]), items[at].split("|"), " ".join(items[at + 1:])
+
+
+def bars_by_definition(text, p, q):
+    """Whether a saying of one word, told by its text, bars the border of the cells p and q."""
+    if text.startswith("! "):
+        return over(text[2:], p) or over(text[2:], q)
+    x, (word,), y = says_parts(text)
+    if word in ("holdsdeep", "holdsrim"):
+        x, y, word = y, x, {"holdsdeep": "deep", "holdsrim": "rim"}[word]
+    xs, ys = [over(x, p), over(x, q)], [over(y, p), over(y, q)]
+    return {
+        "apart": any(xs) and any(ys),
+        "meets": any(one and its for one, its in zip(xs, ys)),
+        "overlaps": False,
+        "same": any(bool(one) != bool(its) for one, its in zip(xs, ys)),
+        "deep": any(xs) and not all(ys),
+        "rim": any(one and not its for one, its in zip(xs, ys)),
+    }[word]
+
+
+def needs_by_definition(lands, texts):
+    """The needs of a book of one word, each with a function of two cells that tells whether they have it."""
+    found = [(("land", name), on_equal(lambda cell, name=name: name in cell)) for name in sorted(lands)]
+    for number, text in enumerate(texts):
+        if not text.startswith("! "):
+            x, (word,), y = says_parts(text)
+            found.extend(((kind, number), has) for kind, has in needs_of_says(x, word, y))
+    return found
+
+
+def on_equal(has):
+    """Of two cells: whether they are equal, and have it."""
+    return lambda p, q: p == q and bool(has(p))
+
+
+def needs_of_says(x, word, y):
+    """The kinds of needs of a Says, each with a function of two cells."""
+    def at(region, p, q):
+        return over(region, p) or over(region, q)
+
+    def through(region, p, q):
+        return over(region, p) and over(region, q)
+
+    alone = ("alone", on_equal(lambda cell: over(x, cell) and not over(y, cell)))
+    beyond = ("beyond", on_equal(lambda cell: over(y, cell) and not over(x, cell)))
+    both = ("both", on_equal(lambda cell: over(x, cell) and over(y, cell)))
+    behind = {
+        "meets": [("touch", lambda p, q: at(x, p, q) and at(y, p, q))],
+        "overlaps": [both, alone, beyond],
+        "deep": [beyond],
+        "holdsdeep": [alone],
+        "rim": [beyond, ("edge", lambda p, q: at(x, p, q) and not through(y, p, q))],
+        "holdsrim": [alone, ("edge", lambda p, q: at(y, p, q) and not through(x, p, q))],
+    }
+    ahead = [("one", on_equal(lambda cell: over(x, cell))), ("other", on_equal(lambda cell: over(y, cell)))]
+    return ahead + behind.get(word, [])
+
+
+def names_of(cell):
+    """The tuple of the names of a cell."""
+    return tuple(sorted(cell))
+
+
+def cell_order(cell):
+    """What cells are ordered by: how many names, then the names."""
+    return (len(cell), names_of(cell))
+
+
+def all_borders(lands):
+    """All pairs of cells of these lands, the first one not behind the second one, in order."""
+    cells = sorted(cells_over(sorted(lands)), key=cell_order)
+    return [(p, q) for at, p in enumerate(cells) for q in cells[at:]]
+
+
+def let_by_definition(lands, texts):
+    """The borders that no saying with one of these texts bars, in order."""
+    return [(p, q) for p, q in all_borders(lands) if not any(bars_by_definition(text, p, q) for text in texts)]
+
+
+def lacks_by_definition(lands, texts):
+    """The needs of a book of one word that no let border has, in order."""
+    let = let_by_definition(lands, texts)
+    return [need for need, has in needs_by_definition(lands, texts) if not any(has(p, q) for p, q in let)]
+
+
+def world_keeps(world, lands, texts):
+    """Whether the world has just these lands, and keeps each saying with one of these texts."""
+    return world.lands == tuple(sorted(lands)) and all(keeps_by_definition(rows_of(world), text) for text in texts)
+
+
+def single_texts(texts):
+    """For each choice of sayings with these texts, in order, the texts of its sayings of one word."""
+    rows = []
+    for text in texts:
+        if text.startswith("! "):
+            rows.append([text])
+        else:
+            x, words, y = says_parts(text)
+            rows.append([f"{x} {word} {y}" for word in words])
+    return [list(row) for row in itertools.product(*rows)]
+
+
+def some_saying_text(chance, lands, depth=2, most_words=7):
+    """The text of a saying of these lands, which may be a Nowhere."""
+    if chance.random() < 0.15:
+        return "! " + some_region_text(chance, lands, depth)
+    words = chance.sample(EIGHT, chance.randint(1, most_words))
+    words = "|".join(word for word in EIGHT if word in words)
+    return " ".join([some_region_text(chance, lands, depth), words, some_region_text(chance, lands, depth)])
+
+
+def some_plain_text(chance, lands, most_words=1):
+    """The text of a Says of two of these lands, perhaps equal ones."""
+    words = chance.sample(EIGHT, chance.randint(1, most_words))
+    words = "|".join(word for word in EIGHT if word in words)
+    return " ".join([chance.choice(lands), words, chance.choice(lands)])
+
+
+def book_text(lands, texts):
+    """The text of the book of these lands with sayings of these texts."""
+    return " ".join([*sorted(lands), ":"] + ([" / ".join(texts)] if texts else []))
+
+
+def items_changed(text, others):
+    """The texts that come of a text by exchanging, leaving out, putting in one item, or doubling a blank."""
+    items = text.split(" ")
+    found = []
+    for at in range(len(items) + 1):
+        for other in others:
+            found.append(items[:at] + [other] + items[at + 1:])
+            found.append(items[:at] + [other] + items[at:])
+        found.append(items[:at] + items[at + 1:])
+        found.append(items[:at] + [""] + items[at:])
+        found.append(items[:at])
+    return sorted({" ".join(one) for one in found} - {text})
+
+
+def is_read(reader, items):
+    """Whether the reader reads the text of these items."""
+    try:
+        reader(" ".join(items))
+    except BadText:
+        return False
+    return True
+
+
+def item_by_trying(reader, text, tails, most):
+    """The item that cannot stand: the first one behind which no text goes on that is read.
+
+    What may follow is tried, made of at most so many of the tails. The number of items, if each can
+    stand. None if the text is read.
+    """
+    items = text.split(" ")
+    if is_read(reader, items):
+        return None
+    for at in range(len(items)):
+        ahead = items[:at + 1]
+        rows = (row for many in range(most + 1) for row in itertools.product(tails, repeat=many))
+        if not any(is_read(reader, ahead + list(row)) for row in rows):
+            return at
+    return len(items)

@@ -2,7 +2,8 @@
 
 from borderwords.errors import BadRegion, BadText, BadWorld
 from borderwords.regions import Common, Land, Region, Rest, Sum
-from tests.support import Case, cells_over, chances, odd_values, over, some_region_text
+from tests.support import (
+    Case, cells_over, chances, item_by_trying, items_changed, odd_values, over, some_region_text)
 
 MADE = (Sum, Common, Rest)
 NO_CELLS = (["b", "a"], ["a", "a"], "a", "", ["a", "B"], ["a", 1], [["a"]], [None], {"a"}, {"a": 1}, None, True, 1)
@@ -115,6 +116,15 @@ class Texts(Case):
                  ("+ + a b + c d e", 7), ("abcdefghijklm", 0), ("a\n", 0), ("a\tb", 0), ("+ a\tb", 1), ("/", 0)]
         for text, item in wrong:
             self.refused(BadText(0, item), Region.read, text)
+
+    def test_changed_texts(self):
+        for told in ("a", "+ a b", "- * a b c", "* a - b c", "+ - a b * c d"):
+            for text in items_changed(told, ("a", "+", "-", "A", "deep")):
+                item = item_by_trying(Region.read, text, ("a",), 5)
+                if item is None:
+                    self.read_only(Region.read, text)
+                else:
+                    self.refused(BadText(0, item), Region.read, text)
 
     def test_read_is_static(self):
         self.assertIsInstance(vars(Region)["read"], staticmethod)

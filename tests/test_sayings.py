@@ -5,17 +5,10 @@ from borderwords.regions import Land, Region
 from borderwords.sayings import Nowhere, Says, Saying, require_saying, require_sayings
 from borderwords.worlds import World
 from tests.support import (
-    EIGHT, Case, chances, keeps_by_definition, odd_values, rows_of, some_region_text, some_rows)
+    EIGHT, Case, chances, item_by_trying, items_changed, keeps_by_definition, odd_values, rows_of, some_rows,
+    some_saying_text)
 
 A, B, C = Land("a"), Land("b"), Land("c")
-
-
-def some_saying_text(chance, lands):
-    """The text of a saying of these lands."""
-    if chance.random() < 0.2:
-        return "! " + some_region_text(chance, lands)
-    words = [word for word in EIGHT if chance.random() < 0.4] or ["rim"]
-    return " ".join([some_region_text(chance, lands), "|".join(words[:7]), some_region_text(chance, lands)])
 
 
 class Making(Case):
@@ -124,7 +117,8 @@ class Equality(Case):
     """Sayings of one class with equal attributes are equal."""
 
     def test_equal(self):
-        texts = ["a deep b", "a deep|rim b", "b holdsdeep a", "a deep c", "c deep b", "! a", "! b", "a deep + b b", "! * a b"]
+        texts = ["a deep b", "a deep|rim b", "b holdsdeep a", "a deep c", "c deep b", "! a", "! b", "a deep + b b",
+                 "! * a b"]
         for one in texts:
             for other in texts:
                 self.assertEqual(Saying.read(one) == Saying.read(other), one == other)
@@ -160,3 +154,12 @@ class Texts(Case):
                  ("a deep !", 2), ("a deep|rim", 2), ("a / b", 1), ("a deep b / c rim d", 3), ("a deep\n b", 1)]
         for text, item in wrong:
             self.refused(BadText(0, item), Saying.read, text)
+
+    def test_changed_texts(self):
+        for told in ("a deep|rim + a b", "! - a b", "+ a * a b same b"):
+            for text in items_changed(told, ("a", "+", "deep", "rim|deep", "!", "/", "A")):
+                item = item_by_trying(Saying.read, text, ("a", "deep"), 5)
+                if item is None:
+                    self.read_only(Saying.read, text)
+                else:
+                    self.refused(BadText(0, item), Saying.read, text)

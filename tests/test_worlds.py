@@ -3,7 +3,8 @@
 from borderwords.checks import cell_key
 from borderwords.errors import BadText, BadWorld, NoLand, TooMany, Twice
 from borderwords.worlds import World
-from tests.support import Case, borders_had, chances, odd_values, rows_of, some_rows
+from tests.support import (
+    Case, borders_had, chances, item_by_trying, items_changed, odd_values, rows_of, some_rows)
 
 TEN = [f"l{number}" for number in range(10)]
 ELEVEN = TEN + ["l91"]
@@ -168,6 +169,17 @@ class Texts(Case):
                  ("a+abcdefghijklm", 0), ("a+b+a", 0), ("a\nb", 0), ("a/b", 0), ("a a++b", 1)]
         for text, item in wrong:
             self.refused(BadText(0, item), World.read, text)
+
+    def test_changed_texts(self):
+        for told in ("a+b - / c", "- - a", "a / b / a b"):
+            for text in items_changed(told, ("a", "b+a", "-", "/", "A")):
+                item = item_by_trying(World.read, text, ("a",), 1)
+                if item == len(text.split(" ")) and not text.endswith("/"):
+                    item = item - 1  # no item is missing: only the whole shows that there is no land
+                if item is None:
+                    self.read_only(World.read, text)
+                else:
+                    self.refused(BadText(0, item), World.read, text)
 
     def test_too_much(self):
         self.refused(BadText(0, 0), World.read, "+".join(ELEVEN))
