@@ -16,6 +16,7 @@ def maps_left(book):
         raise TooMany("lands", MOST_LANDS)
     field = field_of(book.lands)
     choices = [book_bits(field, book.choice(number)) for number in range(book.choices)]
+    # Choices that are not possible would be asked again for each map.
     choices = [told for told in choices if is_possible_with(told, [])]
     tables = [word_table(field, one, other) for one, other in pairs_of(book.lands)]
     found = []

@@ -46,11 +46,10 @@ class Map:
         return self.table[one, other]
 
     def part(self, lands):
-        """The map of these of its lands."""
-        if not is_list(lands) or len(lands) == 0:
+        """The map of these of its lands, one at least, each told once."""
+        if not is_list(lands):
             raise BadMap("lands")
         require_lands(lands, self.lands)
-        require_unlike(lands)
         return Map(lands, [self.table[pair] for pair in pairs_of(lands)])
 
     def renamed(self, pairs):

@@ -126,8 +126,6 @@ def saying_from(items, at, lands=None, most=MOST_WORDS):
 def words_from(items, at, most):
     """The words that the item at this place tells, in their order, at most so many."""
     words = item_at(items, at).split("|")
-    if not are_words(words) or len(words) > min(most, MOST_WORDS):
-        raise BadText(0, at)
-    if words != [word for word in WORDS if word in words]:
+    if len(words) > min(most, MOST_WORDS) or words != [word for word in WORDS if word in words]:
         raise BadText(0, at)
     return words

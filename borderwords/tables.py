@@ -29,8 +29,6 @@ class ThreeBarred(Denial):
 
 def words_by(word, its):
     """The tuple of the words that x can have to z if x has word to y, and y has its to z."""
-    require_word(word, "word")
-    require_word(its, "its")
     return tuple([third for third in WORDS if witness(word, its, third) is not None])
 
 
@@ -76,7 +74,8 @@ def world_with(full):
             borders.append(grown(full, (one,), (other,)))
         if word == "overlaps":
             borders.append(grown(full, (one, other), (one, other)))
-    return World([row_of(border) for border in list({border: True for border in borders})])
+    unlike = {border: True for border in borders}
+    return World([row_of(border) for border in unlike])
 
 
 def grown(full, cell, its):

@@ -51,10 +51,8 @@ class World:
         return World([[[names[land] for land in cell] for cell in row] for row in self.rows])
 
     def without(self, land):
-        """The world with this land left out of each cell."""
+        """The world with this land left out of each cell; no world is left of the only land."""
         require_land(land, self.lands)
-        if len(self.lands) == 1:
-            raise BadWorld("lands")
         return World([[[name for name in cell if name != land] for cell in row] for row in self.rows])
 
     @staticmethod

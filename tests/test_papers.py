@@ -55,7 +55,8 @@ class Papers(Case):
         self.assertEqual(Paper("note", [1, ["a"]]), Paper("note", (1, ("a",))))
         self.assertEqual(Paper("note", 1), Paper("note", True), "as Python compares them")
         unlike = [Paper("note", 1), Paper("note", 2), Paper("note"), Paper("word", 1), Paper("note", 1, 1),
-                  Denial("note", 1), Denial("note"), Paper("alike"), Alike(), Denial("unlike", 1, 2, 3, 4),
+                  Denial("note", 1), Denial("note"), Denial("word", 1), Paper("alike"), Alike(),
+                  Denial("unlike", 1, 2, 3, 4),
                   Unlike(1, 2, 3, 4), Unlike(1, 2, 3, 5)]
         for at, one in enumerate(unlike):
             for its, other in enumerate(unlike):
@@ -66,6 +67,11 @@ class Papers(Case):
         for paper in (Paper("note", 1), Denial("note", 1), Alike()):
             for value in ("note", 1, None, ("note", 1), [1], (1,), False, True):
                 self.assertFalse(paper == value)
+
+    def test_a_class_of_the_same_name_is_another_one(self):
+        for kind in (Paper, Denial):
+            foreign = type(kind.__name__, (), {"word": "note", "parts": (1,)})
+            self.assertFalse(kind("note", 1) == foreign())
 
     def test_what_is_passed_may_be_changed(self):
         part = [1, [2]]

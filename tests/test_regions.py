@@ -85,7 +85,8 @@ class Equality(Case):
     """Regions of one class with equal attributes are equal, no others."""
 
     def test_equal(self):
-        texts = ["a", "b", "+ a b", "+ b a", "* a b", "- a b", "- b a", "+ a a", "+ a + b a", "+ + a b a", "+ + b a a"]
+        texts = ["a", "b", "+ a + b a", "+ + a b a", "+ + b a a", "- * a b a", "* - a b a"]
+        texts += [f"{sign} {one} {other}" for sign in "+*-" for one in "ab" for other in "ab"]
         for one in texts:
             for other in texts:
                 self.assertEqual(Region.read(one) == Region.read(other), one == other)

@@ -189,4 +189,7 @@ class Texts(Case):
         self.refused(BadText(0, 3001), World.read, "a / " + " ".join(["-"] * 3001))
         self.refused(BadText(0, 2999), World.read, " ".join(["-"] * 3000))
         self.refused(BadText(0, 3000), World.read, " ".join(["a"] * 3000) + " /")
+        self.refused(BadText(0, 5999), World.read, " / ".join(["a"] * 3001))
+        self.refused(BadText(0, 2999), World.read, " ".join(["-"] * 3000) + " a")
+        self.refused(BadText(0, 2998), World.read, " ".join(["-"] * 2999))
         self.assertEqual(len(World.read("a / " + " ".join(["-"] * 2999))), 3000)
