@@ -106,8 +106,8 @@ class ShowsAlike(Case):
                  Unlike(c, B, "apart", "meets"), Unlike(Sum(A, c), B, "apart", "meets"),
                  Unlike(A, Region.read("- b c"), "apart", "meets"), Unlike(A, B, "apart", None),
                  Unlike(A, B, None, "meets"), Unlike(Region.read("* a b"), A, None, None),
-                 Unlike(None, None, None, None), Unlike(A, B, 0, 1), Unlike(A, B, ["apart"], ["meets"]), Paper("alike"), Denial("unlike", A, B, "apart", "meets"),
-                 Unlike([A], [B], "apart", "meets"), World, "alike", True, None]
+                 Unlike(None, None, None, None), Unlike(A, B, 0, 1), Unlike(A, B, ["apart"], ["meets"]),
+                 Paper("alike"), Denial("unlike", A, B, "apart", "meets"), Unlike([A], [B], "apart", "meets"), World, "alike", True, None]
         wrong += [Unlike(A, B, value, "meets") for value in odd_values()]
         wrong += [Unlike(A, B, "apart", value) for value in odd_values()]
         wrong += [Unlike(value, B, "apart", "meets") for value in odd_values()]
