@@ -2,16 +2,16 @@
 
 from borderwords.alikes import Alike, Unlike, alike
 from borderwords.looks import word_here
-from borderwords.papers import is_just
+from borderwords.papers import is_just, is_own
 from borderwords.regions import is_region
 
 
 def shows_alike(one, other, value):
     """Whether any value is a right Alike or Unlike of the two worlds."""
     told = alike(one, other)
-    if isinstance(value, Alike):
+    if isinstance(value, Alike) and is_own(value, "Alike"):
         return isinstance(told, Alike)
-    return isinstance(value, Unlike) and are_unlike(one, other, value)
+    return isinstance(value, Unlike) and is_own(value, "Unlike") and are_unlike(one, other, value)
 
 
 def are_unlike(one, other, paper):

@@ -2,7 +2,7 @@
 
 from borderwords.books import require_book
 from borderwords.fields import book_bits, field_of, lacks_of
-from borderwords.papers import is_just
+from borderwords.papers import is_just, is_own
 from borderwords.possible import Barred, Kept, words_taken
 from borderwords.worlds import World
 
@@ -10,9 +10,14 @@ from borderwords.worlds import World
 def shows_possible(book, value):
     """Whether any value is a right Kept or Barred of the book."""
     require_book(book, "book")
-    if isinstance(value, Kept):
+    if isinstance(value, Kept) and is_own(value, "Kept"):
         return is_kept_by(book, value.world)
-    return isinstance(value, Barred) and are_barred(book, value.rows)
+    return is_barred_by(book, value)
+
+
+def is_barred_by(book, value):
+    """Whether any value is a right Barred of the book."""
+    return isinstance(value, Barred) and is_own(value, "Barred") and are_barred(book, value.rows)
 
 
 def is_kept_by(book, value):

@@ -34,6 +34,14 @@ class Denial(Paper):
                 and self.word == other.word and self.parts == other.parts)
 
 
+def is_own(value, name):
+    """Whether any value was made by calling the class of papers of this name, and not one below it.
+
+    That it is a value of this class at all is asked by isinstance, which takes the classes below, too.
+    """
+    return isinstance(value, Paper) and value.__class__.__name__ == name
+
+
 def is_just(value, wanted):
     """Whether any value is this one, which is made of tuples, strings, integers and None.
 

@@ -49,6 +49,11 @@ class Case(unittest.TestCase):
         self.assertEqual(str(reader(text)), text)
 
 
+def below(paper):
+    """What would be this paper, made by calling a class of a caller's own that is below the paper's class."""
+    return type("Own" + type(paper).__name__, (type(paper),), {})(*paper.parts)
+
+
 def namespace():
     """All that the sections told so far define."""
     names = {}

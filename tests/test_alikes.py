@@ -9,7 +9,8 @@ from borderwords.looks import word_of
 from borderwords.papers import Denial, Paper
 from borderwords.regions import Land, Region, Sum
 from borderwords.worlds import World
-from tests.support import Case, cells_over, chances, odd_values, over, rows_of, some_rows, word_by_definition
+from tests.support import (
+    Case, below, cells_over, chances, odd_values, over, rows_of, some_rows, word_by_definition)
 
 A, B = Land("a"), Land("b")
 
@@ -107,7 +108,8 @@ class ShowsAlike(Case):
                  Unlike(A, Region.read("- b c"), "apart", "meets"), Unlike(A, B, "apart", None),
                  Unlike(A, B, None, "meets"), Unlike(Region.read("* a b"), A, None, None),
                  Unlike(None, None, None, None), Unlike(A, B, 0, 1), Unlike(A, B, ["apart"], ["meets"]),
-                 Paper("alike"), Denial("unlike", A, B, "apart", "meets"), Unlike([A], [B], "apart", "meets"), World, "alike", True, None]
+                 Paper("alike"), Denial("unlike", A, B, "apart", "meets"), Unlike([A], [B], "apart", "meets"), World,
+                 "alike", True, None]
         wrong += [Unlike(A, B, value, "meets") for value in odd_values()]
         wrong += [Unlike(A, B, "apart", value) for value in odd_values()]
         wrong += [Unlike(value, B, "apart", "meets") for value in odd_values()]
@@ -115,6 +117,14 @@ class ShowsAlike(Case):
         for value in wrong + odd_values():
             self.assertIs(shows_alike(one, other, value), False, value)
             self.assertIs(shows_alike(one=one, other=one, value=value), isinstance(value, Alike), value)
+
+
+    def test_papers_of_classes_below(self):
+        one, other = World.read("a / b"), World.read("a b")
+        for worlds, paper in (((one, one), Alike()), ((one, other), Unlike(A, B, "apart", "meets"))):
+            self.assertIs(shows_alike(*worlds, paper), True)
+            self.assertIs(shows_alike(*worlds, below(paper)), False)
+            self.assertIs(shows_alike(*worlds, below(below(paper))), False)
 
 
 class MadeRegions(Case):

@@ -1,9 +1,9 @@
 """Papers and denials."""
 
 from borderwords.alikes import Alike, Unlike
-from borderwords.papers import Denial, Paper, fixed, is_just
+from borderwords.papers import Denial, Paper, fixed, is_just, is_own
 from borderwords.regions import Land
-from tests.support import Case, odd_values
+from tests.support import Case, below, odd_values
 
 
 class Fixed(Case):
@@ -89,6 +89,26 @@ class Papers(Case):
         for value in odd_values():
             if not isinstance(value, (list, tuple)):
                 self.assertIs(Unlike(1, 2, 3, value).there, value)
+
+
+class Own(Case):
+    """A value is of a class of papers only if it was made by calling this class."""
+
+    def test_is_own(self):
+        told = [Alike(), Unlike(1, 2, 3, 4)]
+        for paper in told:
+            name = type(paper).__name__
+            self.assertIs(is_own(paper, name), True)
+            self.assertIs(is_own(paper, "Paper"), False)
+            self.assertIs(is_own(paper, "Denial"), False)
+            self.assertIs(is_own(below(paper), name), False)
+            self.assertIs(is_own(below(below(paper)), name), False)
+            self.assertFalse(paper == below(paper) or below(paper) == paper)
+        self.assertIs(is_own(Paper("alike"), "Alike"), False)
+
+    def test_no_papers(self):
+        for value in odd_values() + [Alike, type("Alike", (), {"word": "alike", "parts": ()})()]:
+            self.assertIs(is_own(value, "Alike"), False)
 
 
 class Just(Case):

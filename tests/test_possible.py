@@ -8,7 +8,7 @@ from borderwords.possible import Barred, Kept, possible
 from borderwords.sayings import Saying
 from borderwords.worlds import World
 from tests.support import (
-    Case, book_text, chances, keeps_by_definition, lacks_by_definition, odd_values, rows_of, single_texts,
+    Case, below, book_text, chances, keeps_by_definition, lacks_by_definition, odd_values, rows_of, single_texts,
     some_plain_text, some_region_text, some_rows, some_saying_text, world_keeps)
 
 
@@ -152,6 +152,15 @@ class ShowsPossible(Case):
         self.assertIs(shows_possible(possible_book, Barred([[["deep"], ["land", "a"]]])), False)
         self.assertIs(shows_possible(Book(["a"]), Barred([[[], ["land", "a"]]])), False)
         self.assertIs(shows_possible(book=Book.read("a : ! a"), value=Barred([[(), ("land", "a")]])), True)
+
+    def test_papers_of_classes_below(self):
+        deep, round_about = Book.read("a b : a deep b"), Book.read("a b : a deep b / b deep a")
+        for book, paper in ((deep, Kept(World.read("a+b / b"))), (deep, possible(deep)),
+                            (round_about, Barred([[["deep", "deep"], ["beyond", 1]]])),
+                            (round_about, possible(round_about))):
+            self.assertIs(shows_possible(book, paper), True)
+            self.assertIs(shows_possible(book, below(paper)), False)
+            self.assertIs(shows_possible(book, below(below(paper))), False)
 
     def test_true_is_no_number(self):
         book = Book.read("a b : ! a / a deep b")
