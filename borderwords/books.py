@@ -70,8 +70,7 @@ class Book:
         if not is_list(numbers) or not all([is_integer(number) for number in numbers]):
             raise BadNumber("numbers")
         for number in numbers:
-            if not is_within(number, 0, len(self.sayings) - 1):
-                raise NoSaying(number)
+            require_number(number, self)
         require_unlike(numbers)
         return Book(self.lands, [saying for at, saying in enumerate(self.sayings) if at not in numbers])
 
@@ -138,6 +137,17 @@ def require_plain_single(value, part):
     require_single(value, part)
     if not value.is_plain:
         raise BadBook(part)
+
+
+def require_number(value, book):
+    """Raise NoSaying for what is the number of no saying of the book."""
+    if not is_within(value, 0, len(book.sayings) - 1):
+        raise NoSaying(value)
+
+
+def book_of(book, lot):
+    """The book with all lands of a book, and with just the sayings of a lot of it."""
+    return Book(book.lands, [book.sayings[number] for number in lot])
 
 
 def sayings_from(items, at, lands):

@@ -2,18 +2,16 @@
 
 from borderwords.books import require_plain_single
 from borderwords.checks import WORDS, pairs_of
-from borderwords.errors import Impossible, Misfit
+from borderwords.errors import Misfit
 from borderwords.fields import book_bits, field_of, is_possible_with, saying_bits, word_table
 from borderwords.maps import require_map, says_of
-from borderwords.possible import possible
+from borderwords.possible import require_possible
 
 
 def strongest(book):
     """For each two lands of the book, in order, the words that they have in worlds that keep it."""
     require_plain_single(book, "book")
-    paper = possible(book)
-    if not paper:
-        raise Impossible(paper)
+    require_possible(book)
     field = field_of(book.lands)
     told = book_bits(field, book)
     return tuple([(one, other, words_left(field, told, one, other)) for one, other in pairs_of(book.lands)])

@@ -125,6 +125,14 @@ def word_table(field, one, other):
     return {word: saying_bits(field, Says(Land(one), [word], Land(other)), 0) for word in WORDS}
 
 
+def shown_by(field, bits):
+    """The borders that show a need which these borders have: one of their cells, or both, have it."""
+    shown = bits
+    for cell, its in borders_at(field, bits & field.equal):
+        shown = shown | field.firsts[cell] | field.seconds[its]
+    return shown
+
+
 def lacks_of(let, needed):
     """The list of the needs that none of the let borders has."""
     return [need for need, bits in needed if (let & bits) == 0]

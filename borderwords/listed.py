@@ -15,9 +15,7 @@ def maps_left(book):
     if len(book.lands) > MOST_LANDS:
         raise TooMany("lands", MOST_LANDS)
     field = field_of(book.lands)
-    choices = [book_bits(field, book.choice(number)) for number in range(book.choices)]
-    # Choices that are not possible would be asked again for each map.
-    choices = [told for told in choices if is_possible_with(told, [])]
+    choices = choices_told(field, book)
     tables = [word_table(field, one, other) for one, other in pairs_of(book.lands)]
     found = []
     for words in word_rows(len(tables)):
@@ -25,6 +23,13 @@ def maps_left(book):
         if is_left(choices, more):
             found.append(Map(book.lands, words))
     return tuple(found)
+
+
+def choices_told(field, book):
+    """The choices of the book that are possible, each told as by book_bits."""
+    choices = [book_bits(field, book.choice(number)) for number in range(book.choices)]
+    # Choices that are not possible would be asked again for each further saying.
+    return [told for told in choices if is_possible_with(told, [])]
 
 
 def word_rows(many):

@@ -62,3 +62,8 @@ def are_just(values, wanted):
         if not is_just(value, just):
             return False
     return True
+
+
+def is_among(value, wanted):
+    """Whether any value is just one of these."""
+    return any([is_just(value, one) for one in wanted])

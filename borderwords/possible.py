@@ -1,6 +1,7 @@
 """Whether a book is possible: a world that keeps it, or what each choice of it lacks."""
 
 from borderwords.books import require_book
+from borderwords.errors import Impossible
 from borderwords.fields import book_bits, field_of, lacks_of, rows_with
 from borderwords.papers import Denial, Paper
 from borderwords.sayings import Says
@@ -36,6 +37,13 @@ def possible(book):
             return Kept(World(rows_with(field, let, needed)))
         rows.append((words_taken(single), lacks[0]))
     return Barred(rows)
+
+
+def require_possible(book):
+    """Raise Impossible for a book that no world keeps."""
+    paper = possible(book)
+    if not paper:
+        raise Impossible(paper)
 
 
 def words_taken(single):

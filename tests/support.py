@@ -1,16 +1,22 @@
 """What the tests share: examples, errors, odd values, and the definitions, looked at one by one."""
 
+import functools
 import importlib
 import itertools
 import pathlib
 import random
 import unittest
 
+from borderwords.books import Book
 from borderwords.errors import BadText
+from borderwords.papers import Denial, Paper
+from borderwords.possible import Barred
+from borderwords.worlds import World
 
 EXAMPLES = pathlib.Path(__file__).resolve().parent / "examples"
 SECTIONS = ("errors checks papers regions worlds looks alikes check_alikes sayings books borders possible "
-            "check_possible maps tables widened closing listed").split()
+            "check_possible maps tables widened closing listed check_maps sure brought left asking check_sure "
+            "idle least quarrels check_least").split()
 EIGHT = ("apart", "meets", "overlaps", "same", "deep", "rim", "holdsdeep", "holdsrim")
 LANDS = ("a", "b", "c", "d", "e")
 
@@ -52,6 +58,52 @@ class Case(unittest.TestCase):
 def below(paper):
     """What would be this paper, made by calling a class of a caller's own that is below the paper's class."""
     return type("Own" + type(paper).__name__, (type(paper),), {})(*paper.parts)
+
+
+def bent(value):
+    """Values that come of the parts of papers by a change at one place.
+
+    Of a tuple an item is left out, doubled, exchanged with the one ahead, or bent; of a paper the class, or a part.
+    """
+    if isinstance(value, Paper):
+        yield from (None, value.parts, below(value), Paper(value.word, *value.parts), Denial(value.word, *value.parts))
+        rows = (parts for parts in bent(value.parts) if isinstance(parts, tuple) and len(parts) == len(value.parts))
+        yield from (type(value)(*parts) for parts in rows)
+    elif isinstance(value, tuple):
+        yield from (None, "".join(part for part in value if isinstance(part, str)), dict(enumerate(value)))
+        yield value + (None,)
+        for at, part in enumerate(value):
+            ahead, behind = value[:at], value[at + 1:]
+            yield ahead + behind
+            yield ahead + (part, part) + behind
+            yield from (ahead + (one,) + behind for one in bent(part))
+            if at > 0:
+                yield value[:at - 1] + (part, value[at - 1]) + behind
+    elif isinstance(value, str):
+        yield from (None, 0, "", value + "x", value.upper(), (value,), "a", "b", "deep", "one", "edge", Odd())
+    elif isinstance(value, int):
+        yield from (None, str(value), float(value), value + 1, value - 1, (value,), Odd())
+        yield from [bool(value)] if value in (0, 1) else []
+    else:
+        yield from (None, 0, str(value), (value,), Odd())
+
+
+def as_lists(value):
+    """The value with each tuple in it as a list."""
+    return [as_lists(part) for part in value] if isinstance(value, tuple) else value
+
+
+def is_exact(value, wanted):
+    """Whether a value is this one of tuples, strings, integers and other values, without regard to how they equal."""
+    if isinstance(wanted, tuple):
+        return (isinstance(value, tuple) and len(value) == len(wanted)
+                and all(is_exact(one, other) for one, other in zip(value, wanted)))
+    return type(value) is type(wanted) and value == wanted
+
+
+def is_one_of(value, wanted):
+    """Whether a value is just one of these."""
+    return any(is_exact(value, one) for one in wanted)
 
 
 def namespace():
@@ -252,9 +304,84 @@ def lacks_by_definition(lands, texts):
     return [need for need, has in needs_by_definition(lands, texts) if not any(has(p, q) for p, q in let)]
 
 
+@functools.lru_cache(maxsize=None)
+def borders_in_order(lands):
+    """All borders of a tuple of lands, in order."""
+    return tuple(all_borders(lands))
+
+
+@functools.lru_cache(maxsize=None)
+def barred_places(lands, text):
+    """The places of the borders, all in order, that a saying of one word bars."""
+    return frozenset(at for at, (p, q) in enumerate(borders_in_order(lands)) if bars_by_definition(text, p, q))
+
+
+@functools.lru_cache(maxsize=None)
+def had_places(lands, *texts):
+    """The needs of the book of one word with no saying but these, each with the places of the borders that have it."""
+    return [(need, frozenset(at for at, (p, q) in enumerate(borders_in_order(lands)) if has(p, q)))
+            for need, has in needs_by_definition(lands, texts)]
+
+
+def told_by_definition(lands, texts):
+    """Of a book of one word the places of the borders that it lets, and its needs, each with those that have it."""
+    lands = tuple(sorted(lands))
+    let = frozenset(range(len(borders_in_order(lands))))
+    needs = list(had_places(lands))
+    for number, text in enumerate(texts):
+        let = let - barred_places(lands, text)
+        needs.extend(((kind, number), places) for (kind, _), places in had_places(lands, text)[len(lands):])
+    return let, needs
+
+
+def is_possible_by_definition(lands, texts):
+    """Whether a book with sayings of these texts is possible: whether one of its choices has all that it needs."""
+    for row in single_texts(texts):
+        let, needs = told_by_definition(lands, row)
+        if all(let & places for need, places in needs):
+            return True
+    return False
+
+
+def against_by_definition(text):
+    """The texts of the sayings of which no one may be possible if this one is surely so."""
+    if text.startswith("! "):
+        return [f"{text[2:]} same {text[2:]}"]
+    x, words, y = says_parts(text)
+    return [f"{x} {word} {y}" for word in EIGHT if word not in words] + [f"! {x}", f"! {y}"]
+
+
+def single_words(texts):
+    """The words of the Says of one word with these texts, as Barreds tell them."""
+    return tuple(says_parts(text)[1][0] for text in texts if not text.startswith("! "))
+
+
+def barred_rows_by_definition(lands, texts):
+    """For each choice of a book the words taken, and the needs that no border has which it lets."""
+    rows = []
+    for row in single_texts(texts):
+        let, needs = told_by_definition(lands, row)
+        rows.append((single_words(row), [need for need, places in needs if not let & places]))
+    return rows
+
+
+def is_right_barred(lands, texts, value):
+    """Whether a value is by the definitions a right Barred of the book with sayings of these texts."""
+    rows = barred_rows_by_definition(lands, texts)
+    if type(value) is not Barred or not isinstance(value.rows, tuple) or len(value.rows) != len(rows):
+        return False
+    return all(isinstance(row, tuple) and len(row) == 2 and is_exact(row[0], words) and is_one_of(row[1], lacks)
+               for row, (words, lacks) in zip(value.rows, rows))
+
+
+def book_read(lands, texts):
+    """The book of these lands with sayings of these texts."""
+    return Book.read(book_text(lands, texts))
+
+
 def world_keeps(world, lands, texts):
-    """Whether the world has just these lands, and keeps each saying with one of these texts."""
-    return world.lands == tuple(sorted(lands)) and all(keeps_by_definition(rows_of(world), text) for text in texts)
+    """Whether a value is a world with just these lands that keeps each saying with one of these texts."""
+    return isinstance(world, World) and world.lands == tuple(sorted(lands)) and all(keeps_by_definition(rows_of(world), text) for text in texts)
 
 
 def single_texts(texts):

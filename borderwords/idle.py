@@ -1,0 +1,65 @@
+"""Whether a saying of a book is idle: told by the other sayings."""
+
+from borderwords.books import require_book, require_number, require_plain_single
+from borderwords.checks import turned_word
+from borderwords.papers import Denial, Paper
+from borderwords.possible import possible
+from borderwords.sure import Never, Surely, asked
+from borderwords.tables import words_by
+
+
+class Idle(Paper):
+    """The saying is idle: the Barreds that show it surely so by the others."""
+
+    def __init__(self, papers):
+        super().__init__("idle", papers)
+        self.papers = self.parts[0]
+
+
+class Needed(Denial):
+    """A world that keeps all sayings of the book but this one."""
+
+    def __init__(self, world):
+        super().__init__("needed", world)
+        self.world = self.parts[0]
+
+
+def is_idle(book, number):
+    """The Idle or the Needed of a saying of the book by its number."""
+    require_book(book, "book")
+    require_number(number, book)
+    rest = book.without([number])
+    told = asked(rest, book.sayings[number])
+    if isinstance(told, Surely):
+        return Idle(told.papers)
+    if isinstance(told, Never):
+        return Needed(possible(rest).world)
+    return Needed(told.other)
+
+
+def idle_by_third(book, number):
+    """The first land whose words with the two of a saying let just the word of the saying, None if there is none."""
+    require_plain_single(book, "book")
+    require_number(number, book)
+    saying = book.sayings[number]
+    one, other = saying.one.name, saying.other.name
+    for land in [land for land in book.lands if land not in (one, other)]:
+        if leads_to(words_told_of(book, one, land), words_told_of(book, land, other), saying.words[0]):
+            return land
+    return None
+
+
+def words_told_of(book, one, other):
+    """The words of one land to another one that some Says of a plain book of one word tells, either way about."""
+    found = []
+    for saying in book.sayings:
+        if (saying.one.name, saying.other.name) == (one, other):
+            found.append(saying.words[0])
+        if (saying.other.name, saying.one.name) == (one, other):
+            found.append(turned_word(saying.words[0]))
+    return found
+
+
+def leads_to(words, further, word):
+    """Whether one of these words and one of the further ones, one behind the other, let just this word."""
+    return any([words_by(first, second) == (word,) for first in words for second in further])
