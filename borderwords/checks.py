@@ -8,6 +8,7 @@ TURNED = {"deep": "holdsdeep", "holdsdeep": "deep", "rim": "holdsrim", "holdsrim
 LETTERS = "abcdefghijklmnopqrstuvwxyz"
 DIGITS = "0123456789"
 MOST_SIGNS = 12
+MOST_DIGITS = 60
 
 
 def is_word(value):
@@ -138,11 +139,16 @@ def require_lands(values, lands):
         require_land(value, lands)
 
 
-def require_border(value, part, lands):
-    """The border of these lands; BadWorld for what is none, NoLand for a land that is none of them."""
+def require_two_cells(value, part):
+    """The two cells of a border, as passed; BadWorld for what is no pair of cells."""
     if not is_list(value) or len(value) != 2 or not all([is_cell(cell) for cell in value]):
         raise BadWorld(part)
-    one, other = value
+    return tuple(value[0]), tuple(value[1])
+
+
+def require_border(value, part, lands):
+    """The border of these lands; BadWorld for what is none, NoLand for a land that is none of them."""
+    one, other = require_two_cells(value, part)
     require_lands(one, lands)
     require_lands(other, lands)
     return border_of(one, other)
@@ -158,6 +164,14 @@ def new_names(lands, pairs):
         names[land] = name
     require_unlike([names[land] for land in lands])
     return names
+
+
+def is_integer_text(item):
+    """Whether an item of a text is an integer as texts have it."""
+    digits = item[1:] if item.startswith("-") else item
+    if not 1 <= len(digits) <= MOST_DIGITS or not all([sign in DIGITS for sign in digits]):
+        return False
+    return digits[0] != "0" or item == "0"
 
 
 def text_items(text):

@@ -63,7 +63,13 @@ def threes_of(lands):
 
 
 def world_with(full):
-    """A world that has a map which is possible.
+    """A world that has a map which is possible."""
+    unlike = {border: True for border in needed_borders(full)}
+    return World([row_of(border) for border in unlike])
+
+
+def needed_borders(full):
+    """Let borders of a map that is possible, which have all that it needs.
 
     Each border that is needed is made as small as can be, then widened until the map lets it: what it
     is needed for it still has, since a border that the map lets and that has it lies around it.
@@ -74,15 +80,20 @@ def world_with(full):
             borders.append(grown(full, (one,), (other,)))
         if word == "overlaps":
             borders.append(grown(full, (one, other), (one, other)))
-    unlike = {border: True for border in borders}
-    return World([row_of(border) for border in unlike])
+    return borders
 
 
 def grown(full, cell, its):
     """The border of two cells widened by a map that is possible, if it lets a border around it."""
+    one, other = grown_cells(full, cell, its)
+    return border_of(one, other)
+
+
+def grown_cells(full, cell, its):
+    """The two cells of the border that is grown, as they come."""
     within = [land for land in full.lands
               if any([full.table[name, land] == "deep" for name in list(cell) + list(its)])]
-    return border_of(grown_cell(full, cell, within), grown_cell(full, its, within))
+    return grown_cell(full, cell, within), grown_cell(full, its, within)
 
 
 def grown_cell(full, cell, within):

@@ -16,7 +16,8 @@ from borderwords.worlds import World
 EXAMPLES = pathlib.Path(__file__).resolve().parent / "examples"
 SECTIONS = ("errors checks papers regions worlds looks alikes check_alikes sayings books borders possible "
             "check_possible maps tables widened closing listed check_maps sure brought left asking check_sure "
-            "idle least quarrels check_least").split()
+            "idle least quarrels check_least traces together joined check_together parts onerow straight check_rows "
+            "sizes").split()
 EIGHT = ("apart", "meets", "overlaps", "same", "deep", "rim", "holdsdeep", "holdsrim")
 LANDS = ("a", "b", "c", "d", "e")
 

@@ -123,7 +123,7 @@ class ShowsLeast(Case):
 
     def test_bent(self):
         chance = chances(282)
-        for texts in ([], ["a same a"], ["a deep b", "b same b"], ["a rim b", "b rim c", "a deep|rim c".replace("deep|", "")],
+        for texts in ([], ["a same a"], ["a deep b", "b same b"], ["a rim b", "b rim c", "a rim c"],
                       ["a deep b", "b deep c", "a deep c"]):
             paper = least_book(book_read("abc", texts))
             self.assertTrue(self.agrees("abc", texts, paper))

@@ -1,0 +1,158 @@
+"""Two maps joined, and words across two maps or two books."""
+
+from borderwords.books import require_plain_single, require_single
+from borderwords.checks import WORDS, border_of, pairs_of, require_land, require_lands
+from borderwords.closing import strongest
+from borderwords.errors import Impossible, Misfit, TooMany
+from borderwords.fields import Field, book_bits, borders_at, field_of, is_possible_with, row_of, word_table
+from borderwords.maps import require_map
+from borderwords.papers import Denial
+from borderwords.regions import require_region
+from borderwords.tables import by_threes, grown_cells, needed_borders, words_by
+from borderwords.together import both_cells, passed_borders, together
+from borderwords.traces import cell_within, common_lands
+from borderwords.worlds import World
+
+MOST_COMMON = 3
+
+
+class Pair(Denial):
+    """Two lands, and the words that they have by the strongest sayings of two books, which share none."""
+
+    def __init__(self, one, other, words, its):
+        super().__init__("pair", one, other, words, its)
+        self.one, self.other, self.words, self.its = self.parts
+
+
+def joined(one, other):
+    """A world of the lands of both maps that has both."""
+    require_map(one, "one")
+    require_map(other, "other")
+    require_fitting(one, other)
+    if len(one.lands) + len(other.lands) - len(common_lands(one, other)) > World.MOST_LANDS:
+        raise TooMany("lands", World.MOST_LANDS)
+    borders = [put_into(other, border) for border in needed_borders(one)]
+    borders = borders + [put_into(one, border) for border in needed_borders(other)]
+    unlike = {border: True for border in borders}
+    return World([row_of(border) for border in unlike])
+
+
+def words_beside(one, other, land, its):
+    """The words that a land of the one map can have to a land of the other one in worlds that have both."""
+    require_map(one, "one")
+    require_map(other, "other")
+    require_land(land, one.lands)
+    require_land(its, other.lands)
+    require_fitting(one, other)
+    if land in other.lands:
+        return (other.table[land, its],)
+    if its in one.lands:
+        return (one.table[land, its],)
+    rows = [words_by(one.table[land, by], other.table[by, its]) for by in common_lands(one, other)]
+    return tuple([word for word in WORDS if all([word in row for row in rows])])
+
+
+def words_across(one, other, region, its):
+    """The words that a region of the one book has to a region of the other one in worlds that keep both."""
+    require_single(one, "one")
+    require_single(other, "other")
+    require_region(region, "region")
+    require_region(its, "its")
+    require_lands(region.lands, one.lands)
+    require_lands(its.lands, other.lands)
+    told = together(one, other)
+    if not told:
+        raise Impossible(told)
+    field = field_of(("x", "y"))
+    seen = seen_across(field, [(one, region, "x"), (other, its, "y")])
+    table = word_table(field, "x", "y")
+    return tuple([word for word in WORDS if is_possible_with(seen, [table[word]])])
+
+
+def parting_pair(one, other):
+    """The Pair of the first two common lands for which the two books share no word, None if there are none."""
+    require_plain_single(one, "one")
+    require_plain_single(other, "other")
+    told, further = strongest_table(one), strongest_table(other)
+    lands = common_lands(one, other)
+    require_few_common(lands)
+    for pair in pairs_of(lands):
+        if not any([word in further[pair] for word in told[pair]]):
+            return Pair(pair[0], pair[1], told[pair], further[pair])
+    return None
+
+
+def require_few_common(lands):
+    """Raise TooMany for more common lands than may be asked."""
+    if len(lands) > MOST_COMMON:
+        raise TooMany("lands", MOST_COMMON)
+
+
+def strongest_table(book):
+    """A dict from each two lands of a possible book, in order, to the words that they have."""
+    return {(one, other): words for one, other, words in strongest(book)}
+
+
+def require_fitting(one, other):
+    """Raise Misfit for maps with unlike words of common lands, Impossible for a map that is not possible."""
+    for pair in pairs_of(common_lands(one, other)):
+        if one.table[pair] != other.table[pair]:
+            raise Misfit("words")
+    for full in [one, other]:
+        paper = by_threes(full)
+        if not paper:
+            raise Impossible(paper)
+
+
+def put_into(full, border):
+    """A border that another map lets with those lands of this one put in, so that this one lets it, too.
+
+    What is put in is no common land: the other map, which has the same words for these, would not let the
+    border without it.
+    """
+    cell, its = border
+    more, further = grown_cells(full, cell_within(cell, full.lands), cell_within(its, full.lands))
+    return border_of(both_cells(cell, more), both_cells(its, further))
+
+
+def seen_across(field, sides):
+    """What two books, possible together, let and need, told as by book_bits of a book of two lands x and y alone.
+
+    Each side is a book, a region of it, and the land that stands for the region. A border of all lands that
+    both books let is told by what of the two regions lies over its cells: more does not bear on their word.
+    """
+    books = [book for book, region, name in sides]
+    lands = common_lands(books[0], books[1])
+    bits = {border: 1 << at for at, border in enumerate(field.borders)}
+    passed = passed_borders(books)
+    whole = [faces(passed[at], sides[at], lands) for at in range(2)]
+    needed = []
+    for at in range(2):
+        own = Field(passed[at])
+        _, its = book_bits(own, books[at])
+        for need, had in its:
+            needed.append((need, crossed(bits, faces(borders_at(own, had), sides[at], lands), whole[1 - at])))
+    return crossed(bits, whole[0], whole[1]), needed
+
+
+def faces(borders, side, lands):
+    """For each part of these borders for these lands, either cell ahead, the cells of the region's land alone."""
+    _, region, name = side
+    found = {}
+    for cell, its in borders:
+        face = [(name,) if region.covers(one) else () for one in (cell, its)]
+        part = [cell_within(one, lands) for one in (cell, its)]
+        found.setdefault((part[0], part[1]), {})[face[0], face[1]] = True
+        found.setdefault((part[1], part[0]), {})[face[1], face[0]] = True
+    return found
+
+
+def crossed(bits, found, others):
+    """The bits of the borders of two lands that faces of one book and of another one with the same parts make."""
+    seen = {}
+    for part in found:
+        if part in others:
+            for cell, its in found[part]:
+                for one, other in others[part]:
+                    seen[border_of(tuple(sorted(cell + one)), tuple(sorted(its + other)))] = True
+    return sum([bits[border] for border in seen])
