@@ -1,6 +1,6 @@
 """Whether a value is a right paper of a map: of one that is possible, or not, or of a border that it does not let."""
 
-from borderwords.checks import first_twice, require_border
+from borderwords.checks import require_border
 from borderwords.maps import map_of, require_map
 from borderwords.papers import is_own
 from borderwords.tables import MapKept, ThreeBarred, witness
@@ -12,7 +12,7 @@ def shows_by_threes(full, value):
     """Whether any value is a right MapKept or ThreeBarred of the map."""
     require_map(full, "full")
     if isinstance(value, MapKept) and is_own(value, "MapKept"):
-        return isinstance(value.world, World) and value.world.lands == full.lands and map_of(value.world) == full
+        return isinstance(value.world, World) and map_of(value.world) == full
     return isinstance(value, ThreeBarred) and is_own(value, "ThreeBarred") and are_barred_lands(full, value.lands)
 
 
@@ -20,8 +20,7 @@ def are_barred_lands(full, value):
     """Whether any value is three unlike lands of the map whose words no world has."""
     if not isinstance(value, tuple) or len(value) != 3 or not all([is_land_of(full, land) for land in value]):
         return False
-    if first_twice(value) is not None:
-        return False
+    # With a land told twice there is such a world: so the three are unlike if there is none.
     one, other, third = value
     return witness(full.table[one, other], full.table[other, third], full.table[one, third]) is None
 

@@ -43,9 +43,10 @@ def idle_by_third(book, number):
     require_number(number, book)
     saying = book.sayings[number]
     one, other = saying.one.name, saying.other.name
-    for land in [land for land in book.lands if land not in (one, other)]:
-        if leads_to(words_told_of(book, one, land), words_told_of(book, land, other), saying.words[0]):
-            return land
+    thirds = [land for land in book.lands if land not in (one, other)]
+    for third in thirds:
+        if leads_to(words_told_of(book, one, third), words_told_of(book, third, other), saying.words[0]):
+            return third
     return None
 
 

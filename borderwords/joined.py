@@ -29,11 +29,10 @@ def joined(one, other):
     require_map(one, "one")
     require_map(other, "other")
     require_fitting(one, other)
-    if len(one.lands) + len(other.lands) - len(common_lands(one, other)) > World.MOST_LANDS:
-        raise TooMany("lands", World.MOST_LANDS)
     borders = [put_into(other, border) for border in needed_borders(one)]
     borders = borders + [put_into(one, border) for border in needed_borders(other)]
     unlike = {border: True for border in borders}
+    # More lands in all than a world may have are refused by World.
     return World([row_of(border) for border in unlike])
 
 
@@ -44,10 +43,7 @@ def words_beside(one, other, land, its):
     require_land(land, one.lands)
     require_land(its, other.lands)
     require_fitting(one, other)
-    if land in other.lands:
-        return (other.table[land, its],)
-    if its in one.lands:
-        return (one.table[land, its],)
+    # A common land is same to itself: so it lets just the word that it has.
     rows = [words_by(one.table[land, by], other.table[by, its]) for by in common_lands(one, other)]
     return tuple([word for word in WORDS if all([word in row for row in rows])])
 

@@ -65,8 +65,8 @@ def fewest_rows(book):
     while all([len(lacks) > 0 for lacks in lot_lacks(rows, needed, size)]):
         size = size + 1
     lots = lots_with(len(rows), size)
-    lot = [lot for lot, lacks in zip(lots, lot_lacks(rows, needed, size)) if len(lacks) == 0][0]
-    world = World([row_through(field, rows[number], needed) for number in lot])
+    enough = [lot for lot, lacks in zip(lots, lot_lacks(rows, needed, size)) if len(lacks) == 0]
+    world = World([row_through(field, rows[number], needed) for number in enough[0]])
     return FewestRows(world, [lacks[0] for lacks in lot_lacks(rows, needed, size - 1)])
 
 

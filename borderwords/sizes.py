@@ -3,7 +3,7 @@
 from borderwords.books import require_single
 from borderwords.checks import (
     is_integer_text, is_list, is_within, item_at, require_cell, require_lands, text_items)
-from borderwords.errors import BadSize, BadText, Misfit, TooMany, Twice
+from borderwords.errors import BadSize, BadText, TooMany, Twice
 from borderwords.regions import is_region, region_from, require_region
 from borderwords.worlds import require_world
 
@@ -54,7 +54,7 @@ class AtLeast(SizeSaying):
         return isinstance(other, AtLeast) and self.counts == other.counts
 
     def __str__(self):
-        return " ".join(["atleast", *count_items(self.counts)])
+        return f"atleast {counts_text(self.counts)}"
 
 
 class Above(SizeSaying):
@@ -76,7 +76,7 @@ class Above(SizeSaying):
         return isinstance(other, Above) and self.counts == other.counts
 
     def __str__(self):
-        return " ".join(["above", *count_items(self.counts)])
+        return f"above {counts_text(self.counts)}"
 
 
 class SizedBook:
@@ -100,8 +100,7 @@ class SizedBook:
         """Whether a world and lengths of it keep the book and all its size sayings."""
         require_world(world, "world")
         require_lengths(world, lengths)
-        if world.lands != self.book.lands:
-            raise Misfit("lands")
+        # A world of other lands is refused by first_broken.
         if self.book.first_broken(world) is not None:
             return False
         return all([is_kept_with(saying, world, lengths) for saying in self.sizes])
@@ -169,9 +168,9 @@ def turned_counts(counts):
     return [(region, -count) for region, count in counts]
 
 
-def count_items(counts):
-    """The texts of the pairs, the count ahead of the region."""
-    return [f"{count} {region}" for region, count in counts]
+def counts_text(counts):
+    """The text of the pairs, the count of each ahead of its region."""
+    return " ".join([f"{count} {region}" for region, count in counts])
 
 
 def counts_from(items, at):

@@ -67,7 +67,8 @@ def bent(value):
     Of a tuple an item is left out, doubled, exchanged with the one ahead, or bent; of a paper the class, or a part.
     """
     if isinstance(value, Paper):
-        yield from (None, value.parts, below(value), Paper(value.word, *value.parts), Denial(value.word, *value.parts))
+        yield from (None, value.parts, below(value), namesake(value))
+        yield from (Paper(value.word, *value.parts), Denial(value.word, *value.parts))
         rows = (parts for parts in bent(value.parts) if isinstance(parts, tuple) and len(parts) == len(value.parts))
         yield from (type(value)(*parts) for parts in rows)
     elif isinstance(value, tuple):
@@ -105,6 +106,15 @@ def is_exact(value, wanted):
 def is_one_of(value, wanted):
     """Whether a value is just one of these."""
     return any(is_exact(value, one) for one in wanted)
+
+
+def namesake(paper):
+    """What looks like this paper, made by calling a class of the same name that is not the paper's class."""
+    base = Denial if isinstance(paper, Denial) else Paper
+    found = type(type(paper).__name__, (base,), {})(paper.word, *paper.parts)
+    for name, value in vars(paper).items():
+        setattr(found, name, value)
+    return found
 
 
 def namespace():

@@ -10,7 +10,7 @@ from borderwords.papers import Denial, Paper
 from borderwords.regions import Land, Region, Sum
 from borderwords.worlds import World
 from tests.support import (
-    Case, below, cells_over, chances, odd_values, over, rows_of, some_rows, word_by_definition)
+    Case, below, cells_over, chances, namesake, odd_values, over, rows_of, some_rows, word_by_definition)
 
 A, B = Land("a"), Land("b")
 
@@ -125,6 +125,7 @@ class ShowsAlike(Case):
             self.assertIs(shows_alike(*worlds, paper), True)
             self.assertIs(shows_alike(*worlds, below(paper)), False)
             self.assertIs(shows_alike(*worlds, below(below(paper))), False)
+            self.assertIs(shows_alike(*worlds, namesake(paper)), False)
 
 
 class MadeRegions(Case):

@@ -224,6 +224,20 @@ class ShowsAsking(Case):
             met.append(self.agrees(long, Plan(2, tree)))
         self.assertGreater(met.count(True), 2)
 
+    def test_other_maps(self):
+        several, known = Book.read("a b : a deep|rim b"), Book.read("a b : a deep b")
+        for word in EIGHT:
+            full = Map(["a", "b"], [word])
+            self.assertIs(self.agrees(known, Known(full)), word == "deep")
+            self.assertIs(self.agrees(known, Plan(0, full)), word == "deep")
+            self.assertFalse(self.agrees(several, Known(full)))
+            for other in EIGHT:
+                tree = ("a", "b", (("deep", full), ("rim", Map(["a", "b"], [other]))))
+                self.assertIs(self.agrees(several, Plan(1, tree)), (word, other) == ("deep", "rim"))
+        self.assertFalse(self.agrees(known, Known(Map(["b", "c"], ["deep"]))))
+        self.assertFalse(self.agrees(known, next_asked(several)))
+        self.assertFalse(self.agrees(known, Asked("a", "b", [("a", "b", 1)])))
+
     def test_other_values(self):
         book, known = Book.read("a b : a deep|rim b"), Book.read("a b : a deep b")
         full = Map.read("a b : deep")

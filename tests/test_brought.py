@@ -179,6 +179,13 @@ class ShowsBrought(Case):
             for border in borders:
                 self.agrees("ab", texts, text, Breaks(border[::-1]))
 
+    def test_needs_that_are_brought_do_not_do_where_a_border_is_barred(self):
+        self.assertFalse(self.agrees("a", [], "! a", Brought([])))
+        self.assertTrue(self.agrees("a", [], "! - a a", Brought([])))
+        both = Brought([("land", "a"), ("land", "b")])
+        self.assertFalse(self.agrees("ab", [], "a apart b", both))
+        self.assertTrue(self.agrees("ab", ["a apart b"], "a apart b", both))
+
     def test_an_unbrought_beside_a_border_that_breaks(self):
         # The paper that is told is a Breaks; an Unbrought is right, too.
         texts, text = [], "a deep b"

@@ -294,6 +294,10 @@ class PartingPair(Case):
             for value in bent(Pair(*parts)):
                 self.agrees(one, other, value)
         self.assertFalse(self.agrees(one, other, Pair("b", "c", ("deep",), EIGHT)))
+        wide = [("abc", ["a deep b"]), ("abc", ["a apart c"]), ("abc", ["a rim b", "b rim c"]), ("abc", ["a deep c"])]
+        for (one, other), pair in itertools.product(itertools.product(wide, repeat=2), itertools.combinations("abc", 2)):
+            words = [{row[:2]: row[2] for row in strongest(book_read(*book))}[pair] for book in (one, other)]
+            self.agrees(one, other, Pair(*pair, *words))
 
     def test_what_is_not_possible(self):
         one, other = ("ab", ["a deep b"]), ("ab", ["a apart b", "a meets b"])

@@ -127,6 +127,14 @@ class RowWords(Case):
                 met.append(self.right(lands, texts, *[some_region_text(chance, lands, 1) for _ in "xy"]))
         self.assertGreater(len(set(met)), 6)
 
+    def test_books_of_several_parts(self):
+        for texts in (["b deep c", "- c b deep c", "- c b apart a"], ["+ a b deep + b c", "- c b deep - c a"],
+                      ["+ b c same + a b", "b deep + a b", "c deep + b c"]):
+            self.assertEqual(len(parts_by_definition("abc", texts)), 2)
+            self.assertTrue(on_one_row(book_read("abc", texts)))
+            for pair in itertools.combinations("abc", 2):
+                self.assertNotEqual(self.right("abc", texts, *pair), ())
+
     def test_fewer_than_on_several_rows(self):
         self.assertEqual(self.right(*EITHER, "a", "b"), ("meets", "overlaps", "deep"))
         texts = EITHER[1] + ["a apart b"]

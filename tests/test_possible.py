@@ -8,8 +8,8 @@ from borderwords.possible import Barred, Kept, possible
 from borderwords.sayings import Saying
 from borderwords.worlds import World
 from tests.support import (
-    Case, below, book_text, chances, keeps_by_definition, lacks_by_definition, odd_values, rows_of, single_texts,
-    some_plain_text, some_region_text, some_rows, some_saying_text, world_keeps)
+    Case, below, book_text, chances, keeps_by_definition, lacks_by_definition, namesake, odd_values, rows_of,
+    single_texts, some_plain_text, some_region_text, some_rows, some_saying_text, world_keeps)
 
 
 def words_of(texts):
@@ -161,6 +161,7 @@ class ShowsPossible(Case):
             self.assertIs(shows_possible(book, paper), True)
             self.assertIs(shows_possible(book, below(paper)), False)
             self.assertIs(shows_possible(book, below(below(paper))), False)
+            self.assertIs(shows_possible(book, namesake(paper)), False)
 
     def test_true_is_no_number(self):
         book = Book.read("a b : ! a / a deep b")
