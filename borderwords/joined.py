@@ -136,11 +136,17 @@ def faces(borders, side, lands):
     _, region, name = side
     found = {}
     for cell, its in borders:
-        face = [(name,) if region.covers(one) else () for one in (cell, its)]
-        part = [cell_within(one, lands) for one in (cell, its)]
-        found.setdefault((part[0], part[1]), {})[face[0], face[1]] = True
-        found.setdefault((part[1], part[0]), {})[face[1], face[0]] = True
+        for one, other in ((cell, its), (its, cell)):
+            part = (cell_within(one, lands), cell_within(other, lands))
+            if part not in found:
+                found[part] = {}
+            found[part][face_of(region, name, one), face_of(region, name, other)] = True
     return found
+
+
+def face_of(region, name, cell):
+    """The cell of this land alone if the region lies over the cell, otherwise the empty one."""
+    return (name,) if region.covers(cell) else ()
 
 
 def crossed(bits, found, others):
