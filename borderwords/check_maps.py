@@ -3,7 +3,8 @@
 from borderwords.checks import require_border
 from borderwords.maps import map_of, require_map
 from borderwords.papers import is_own
-from borderwords.tables import MapKept, ThreeBarred, witness
+from borderwords.tables import MapKept, ThreeBarred
+from borderwords.threes import is_three
 from borderwords.widened import Unlet, bars_two
 from borderwords.worlds import World
 
@@ -22,7 +23,7 @@ def are_barred_lands(full, value):
         return False
     # With a land told twice there is such a world: so the three are unlike if there is none.
     one, other, third = value
-    return witness(full.table[one, other], full.table[other, third], full.table[one, third]) is None
+    return not is_three(full.table[one, other], full.table[other, third], full.table[one, third])
 
 
 def is_land_of(full, value):

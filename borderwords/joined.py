@@ -8,7 +8,7 @@ from borderwords.fields import Field, book_bits, borders_at, field_of, is_possib
 from borderwords.maps import require_map
 from borderwords.papers import Denial
 from borderwords.regions import require_region
-from borderwords.tables import by_threes, grown_cells, needed_borders, words_by
+from borderwords.tables import grown_cells, needed_borders, require_possible_map, words_by
 from borderwords.together import both_cells, passed_borders, together
 from borderwords.traces import cell_within, common_lands
 from borderwords.worlds import World
@@ -95,9 +95,7 @@ def require_fitting(one, other):
         if one.table[pair] != other.table[pair]:
             raise Misfit("words")
     for full in [one, other]:
-        paper = by_threes(full)
-        if not paper:
-            raise Impossible(paper)
+        require_possible_map(full)
 
 
 def put_into(full, border):

@@ -84,7 +84,7 @@ class SizedBook:
 
     def __init__(self, book, sizes=()):
         require_single(book, "book")
-        if not is_list(sizes) or not all([isinstance(saying, (AtLeast, Above)) for saying in sizes]):
+        if not is_list(sizes) or not all([is_size_saying(saying) for saying in sizes]):
             raise BadSize("sizes")
         for saying in sizes:
             for region, _ in saying.counts:
@@ -107,6 +107,23 @@ class SizedBook:
 
     def __eq__(self, other):
         return isinstance(other, SizedBook) and self.book == other.book and self.sizes == other.sizes
+
+
+def is_size_saying(value):
+    """Whether any value is a size saying."""
+    return isinstance(value, (AtLeast, Above))
+
+
+def require_size_saying(value, part):
+    """Raise BadSize for what is no size saying."""
+    if not is_size_saying(value):
+        raise BadSize(part)
+
+
+def require_sized(value, part):
+    """Raise BadSize for what is no sized book."""
+    if not isinstance(value, SizedBook):
+        raise BadSize(part)
 
 
 def size_of(world, lengths, region):
@@ -149,13 +166,20 @@ def stands_in(region, counts):
     return any([region == told for told, count in counts])
 
 
-def require_lengths(world, value):
-    """Raise BadSize for what are no lengths of the world."""
+def are_lengths(world, value):
+    """Whether any value is lengths of the world."""
     if not is_list(value) or len(value) != len(world.rows):
-        raise BadSize("lengths")
+        return False
     for row, its in zip(world.rows, value):
         if not is_list(its) or len(its) != len(row) or not all([is_within(length, 1, None) for length in its]):
-            raise BadSize("lengths")
+            return False
+    return True
+
+
+def require_lengths(world, value):
+    """Raise BadSize for what are no lengths of the world."""
+    if not are_lengths(world, value):
+        raise BadSize("lengths")
 
 
 def worth_of(counts, cell):

@@ -1,13 +1,15 @@
 """What words two lands can have by a third one, and whether a map is possible."""
 
 from borderwords.books import Book
-from borderwords.checks import WORDS, border_of, pairs_of, require_word
+from borderwords.checks import border_of, pairs_of, require_word
+from borderwords.errors import Impossible
 from borderwords.fields import row_of
 from borderwords.maps import require_map
 from borderwords.papers import Denial, Paper
 from borderwords.possible import Kept, possible
 from borderwords.regions import Land
 from borderwords.sayings import Says
+from borderwords.threes import BY_THIRD, is_three
 from borderwords.worlds import World
 
 
@@ -29,7 +31,9 @@ class ThreeBarred(Denial):
 
 def words_by(word, its):
     """The tuple of the words that x can have to z if x has word to y, and y has its to z."""
-    return tuple([third for third in WORDS if witness(word, its, third) is not None])
+    require_word(word, "word")
+    require_word(its, "its")
+    return BY_THIRD[word, its]
 
 
 def witness(word, its, third):
@@ -45,14 +49,23 @@ def witness(word, its, third):
 def by_threes(full):
     """The MapKept of some world that has the map, or the ThreeBarred of the first three lands."""
     require_map(full, "full")
-    known = {}
+    lands = lands_barred(full)
+    return MapKept(world_with(full)) if lands is None else ThreeBarred(lands)
+
+
+def lands_barred(full):
+    """The first three lands of the map whose words no world has, None if the map is possible."""
     for one, other, third in threes_of(full.lands):
-        words = (full.table[one, other], full.table[other, third], full.table[one, third])
-        if words not in known:
-            known[words] = witness(words[0], words[1], words[2]) is not None
-        if not known[words]:
-            return ThreeBarred((one, other, third))
-    return MapKept(world_with(full))
+        if not is_three(full.table[one, other], full.table[other, third], full.table[one, third]):
+            return one, other, third
+    return None
+
+
+def require_possible_map(full):
+    """Raise Impossible for a map that no world has."""
+    lands = lands_barred(full)
+    if lands is not None:
+        raise Impossible(ThreeBarred(lands))
 
 
 def threes_of(lands):

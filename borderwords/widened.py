@@ -4,7 +4,7 @@ from borderwords.checks import pairs_of, require_border
 from borderwords.errors import Impossible
 from borderwords.maps import require_map
 from borderwords.papers import Denial
-from borderwords.tables import by_threes, grown
+from borderwords.tables import grown, require_possible_map
 
 
 class Unlet(Denial):
@@ -19,9 +19,7 @@ def widened(full, border):
     """The border widened by the map: the least one around it that the map lets."""
     require_map(full, "full")
     cell, its = require_border(border, "border", full.lands)
-    told = by_threes(full)
-    if not told:
-        raise Impossible(told)
+    require_possible_map(full)
     for one, other in pairs_of([land for land in full.lands if land in cell or land in its]):
         if bars_two(full, (cell, its), one, other):
             raise Impossible(Unlet(one, other))

@@ -17,7 +17,7 @@ EXAMPLES = pathlib.Path(__file__).resolve().parent / "examples"
 SECTIONS = ("errors checks papers regions worlds looks alikes check_alikes sayings books borders possible "
             "check_possible maps tables widened closing listed check_maps sure brought left asking check_sure "
             "idle least quarrels check_least traces together joined check_together parts onerow straight check_rows "
-            "sizes").split()
+            "sizes cones sized sizedrows shares check_sizes vanish limits nearmaps check_limits").split()
 EIGHT = ("apart", "meets", "overlaps", "same", "deep", "rim", "holdsdeep", "holdsrim")
 LANDS = ("a", "b", "c", "d", "e")
 
