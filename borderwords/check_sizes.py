@@ -5,7 +5,7 @@ from math import gcd
 from borderwords.checks import is_within
 from borderwords.cones import Greatest
 from borderwords.papers import is_among, is_just, is_own
-from borderwords.scales import scale_of, sum_told
+from borderwords.scales import scale_of
 from borderwords.shares import Endless, Neared, Reached, Share, gap_against, require_two_lands, size_by
 from borderwords.sized import AgainstNeed, NotAbove, Sized, SureSize, contrary_scale
 from borderwords.sizedrows import NoSizedRow, SizedRow, joined_parts

@@ -29,7 +29,11 @@ class NoSizedRow(Denial):
 def sized_on_one_row(sized):
     """The SizedRow of the sized book, or the NoSizedRow."""
     require_sized(sized, "sized")
-    scale = scale_of(sized)
+    return told_on_one_row(scale_of(sized))
+
+
+def told_on_one_row(scale):
+    """As sized_on_one_row, of what a scale tells."""
     rows = []
     lots = [scale.cells]
     while len(lots) > 0:
