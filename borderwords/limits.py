@@ -1,6 +1,6 @@
 """Limits of maps: which maps another one can become if cells vanish."""
 
-from borderwords.checks import border_of, pairs_of, require_cell, require_lands, require_word
+from borderwords.checks import WORDS, border_of, pairs_of, require_cell, require_lands, require_word
 from borderwords.errors import BadLimit, Misfit, TooMany
 from borderwords.fields import book_bits, borders_at, field_of, first_border
 from borderwords.maps import require_map
@@ -43,6 +43,11 @@ def limit_words(word):
     """The tuple of the words that a word may become in a limit."""
     require_word(word, "word")
     return BECOMES[word]
+
+
+def words_before(word):
+    """The tuple of the words that may become this one in a limit."""
+    return tuple([before for before in WORDS if word in BECOMES[before]])
 
 
 def cells_between(full, one, other):

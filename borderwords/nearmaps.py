@@ -1,11 +1,10 @@
 """All maps that are limits of a map, or of which it is a limit, for few lands."""
 
-from borderwords.checks import WORDS
 from borderwords.errors import TooMany
-from borderwords.limits import BECOMES
+from borderwords.limits import BECOMES, words_before
 from borderwords.maps import Map, require_map
 from borderwords.tables import require_possible_map
-from borderwords.threes import is_three
+from borderwords.threes import possible_rows
 
 MOST_LANDS = 3
 
@@ -28,18 +27,3 @@ def require_near(full):
     require_possible_map(full)
     if len(full.lands) > MOST_LANDS:
         raise TooMany("lands", MOST_LANDS)
-
-
-def words_before(word):
-    """The tuple of the words that may become this one in a limit."""
-    return tuple([before for before in WORDS if word in BECOMES[before]])
-
-
-def possible_rows(choices):
-    """The words of all possible maps of at most three lands, in order, that have for each two lands one of these."""
-    rows = [()]
-    for words in choices:
-        rows = [row + (word,) for row in rows for word in words]
-    if len(choices) < 3:
-        return rows
-    return [row for row in rows if is_three(row[0], row[2], row[1])]

@@ -4,6 +4,8 @@ The table is told, not worked out: films and lists of maps ask it many thousand 
 row against what worlds show.
 """
 
+from borderwords.checks import WORDS, pairs_of, turned_word
+
 BY_THIRD = {
     ("apart", "apart"): ("apart", "meets", "overlaps", "same", "deep", "rim", "holdsdeep", "holdsrim"),
     ("apart", "meets"): ("apart", "meets", "overlaps", "deep", "rim"),
@@ -75,3 +77,39 @@ BY_THIRD = {
 def is_three(word, its, third):
     """Whether some world has these words of x to y, of y to z, of x to z."""
     return third in BY_THIRD[word, its]
+
+
+def rows_of(choices):
+    """All rows that have at each place one of the words told for it, in order."""
+    rows = [()]
+    for words in choices:
+        rows = [row + (word,) for row in rows for word in words]
+    return rows
+
+
+def possible_rows(choices):
+    """The words of all possible maps of at most three lands, in order, that have for each two lands one of these."""
+    rows = rows_of(choices)
+    if len(choices) < 3:
+        return rows
+    return [row for row in rows if is_three(row[0], row[2], row[1])]
+
+
+def words_kept(lands, book):
+    """For each two of these lands, in order, the words by which a map keeps a plain book; None if no map keeps it."""
+    choices = {pair: WORDS for pair in pairs_of(lands)}
+    for saying in book.sayings:
+        one, other = saying.one.name, saying.other.name
+        if one == other and "same" not in saying.words:
+            return None
+        if (one, other) in choices:
+            choices[one, other] = [word for word in choices[one, other] if word in saying.words]
+        elif one != other:
+            choices[other, one] = [word for word in choices[other, one] if turned_word(word) in saying.words]
+    return list(choices.values())
+
+
+def rows_kept(lands, book):
+    """The words of all possible maps of these lands, at most three, that keep a plain book, in order."""
+    choices = words_kept(lands, book)
+    return [] if choices is None else possible_rows(choices)

@@ -58,7 +58,7 @@ class World:
     @staticmethod
     def read(text):
         """The world whose text this is."""
-        return World(rows_from(text_items(text)))
+        return World(rows_from(text_items(text), 0))
 
 
 def require_world(value, part):
@@ -95,12 +95,14 @@ def borders_of(rows):
     return tuple(sorted(list(found), key=border_key))
 
 
-def rows_from(items):
-    """The rows that the items of a text tell."""
+def rows_from(items, start):
+    """The rows that the items of a text tell, from this one on to the end."""
     rows = [[]]
     lands = {}
     many = 0
     for at, item in enumerate(items):
+        if at < start:
+            continue
         # No item may stand behind which no text of a world goes on: so none but a last cell
         # that brings a land comes as the last cell of the most.
         if item == "/":

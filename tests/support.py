@@ -8,7 +8,7 @@ import random
 import unittest
 
 from borderwords.books import Book
-from borderwords.errors import BadText
+from borderwords.errors import BadText, WordsError
 from borderwords.papers import Denial, Paper
 from borderwords.possible import Barred
 from borderwords.worlds import World
@@ -17,7 +17,8 @@ EXAMPLES = pathlib.Path(__file__).resolve().parent / "examples"
 SECTIONS = ("errors checks papers regions worlds looks alikes check_alikes sayings books borders possible "
             "check_possible maps tables widened closing listed check_maps sure brought left asking check_sure "
             "idle least quarrels check_least traces together joined check_together parts onerow straight check_rows "
-            "sizes cones sized sizedrows shares check_sizes vanish limits nearmaps check_limits").split()
+            "sizes cones sized sizedrows shares check_sizes vanish limits nearmaps check_limits "
+            "films bars histories check_films desk_lines shelves desk_deeds desk_asks desk stories").split()
 EIGHT = ("apart", "meets", "overlaps", "same", "deep", "rim", "holdsdeep", "holdsrim")
 LANDS = ("a", "b", "c", "d", "e")
 
@@ -47,13 +48,21 @@ class Case(unittest.TestCase):
             self.assertEqual(set(vars(error)), set(vars(wanted)))
             for name, field in vars(wanted).items():
                 own = vars(error)[name]
-                self.assertTrue(own is field or (type(own) is type(field) and own == field), (name, own, field))
+                self.assertTrue(is_field(own, field), (name, own, field))
             return
         self.fail(f"{found!r} instead of {type(wanted).__name__} {vars(wanted)}")
 
     def read_only(self, reader, text):
         """The text is read as a value of which it is the text."""
         self.assertEqual(str(reader(text)), text)
+
+
+def is_field(own, field):
+    """Whether a field of an error is just this one, which may be an error itself."""
+    if isinstance(field, WordsError):
+        return type(own) is type(field) and vars(own).keys() == vars(field).keys() and all(
+            is_field(vars(own)[name], value) for name, value in vars(field).items())
+    return own is field or (type(own) is type(field) and own == field)
 
 
 def below(paper):

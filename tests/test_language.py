@@ -21,11 +21,12 @@ BUILTINS = set(
     "None".split())
 STATEMENTS = (
     ast.Assign, ast.AugAssign, ast.If, ast.While, ast.For, ast.Return, ast.Break, ast.Continue, ast.Pass, ast.Raise,
-    ast.Assert, ast.Delete, ast.Expr)
+    ast.Assert, ast.Delete, ast.Expr, ast.Try)
 METHODS = set(
     "append clear copy count endswith extend find get index insert isalnum isalpha isdigit islower isspace isupper "
     "items join keys ljust lower lstrip partition pop remove replace reverse rfind rjust rpartition rsplit rstrip "
     "setdefault split splitlines startswith strip update upper values zfill bit_length add discard".split())
+OWN_ERRORS = {"WordsError"}
 NO_NAMES = set(
     "register mro elements open input law version_info with_traceback add_note attrgetter breakpoint builtins compile "
     "copyright credits delattr dir eval exec exit gc getattr globals hasattr help id importlib license locals "
@@ -127,7 +128,8 @@ def check_module(file, bound):
             continue
         begun = True
         if isinstance(node, ast.Assign):
-            if len(node.targets) != 1 or not isinstance(node.targets[0], ast.Name) or not is_plain(node.value):
+            above = {one.name for one in file.tree.body[:at] if isinstance(one, ast.FunctionDef)}
+            if len(node.targets) != 1 or not isinstance(node.targets[0], ast.Name) or not is_plain(node.value, above):
                 file.fault(node, "L3 value")
         elif not isinstance(node, (ast.FunctionDef, ast.ClassDef)):
             file.fault(node, "L3 module level")
@@ -137,12 +139,13 @@ def check_module(file, bound):
             file.fault(name, "L15 bound twice, or a builtin")
 
 
-def is_plain(node):
+def is_plain(node, functions=()):
+    """Whether a value is written out; functions defined above may stand in it."""
     if isinstance(node, (ast.List, ast.Tuple)):
-        return all(is_plain(part) for part in node.elts)
+        return all(is_plain(part, functions) for part in node.elts)
     if isinstance(node, ast.Dict):
-        return all(is_plain(part) for part in node.keys + node.values)
-    return isinstance(node, ast.Constant)
+        return all(is_plain(part, functions) for part in node.keys + node.values)
+    return isinstance(node, ast.Constant) or getattr(node, "id", None) in functions
 
 
 def check_import(file, node, bound, begun):
@@ -194,6 +197,7 @@ def check_functions(file):
             if node.id.startswith("__") or node.id in NO_NAMES:
                 file.fault(node, "L12 or L17 name")
     check_returns(file)
+    check_tries(file)
 
 
 def check_name(file, node, name, taken):
@@ -201,6 +205,19 @@ def check_name(file, node, name, taken):
         file.fault(node, f"L15 {name} is a class or an import")
     if hasattr(builtins, name) or name in NO_NAMES or name.startswith("__"):
         file.fault(node, f"L15 or L17 {name}")
+
+
+def check_tries(file):
+    """L6, L19: own errors alone are caught, and a caught one is raised on, or kept by the one that is raised."""
+    for node in file.walk(ast.Try):
+        if node.finalbody or node.orelse or len(node.handlers) != 1:
+            file.fault(node, "L6 try")
+        for handler in node.handlers:
+            if getattr(handler.type, "id", None) not in OWN_ERRORS:
+                file.fault(handler, "L19 caught")
+    for node in file.walk(ast.Raise):
+        if not isinstance(node.exc, ast.Call) or not isinstance(node.exc.func, ast.Name):
+            file.fault(node, "L19 raise")
 
 
 def check_returns(file):
@@ -232,6 +249,7 @@ def check_expressions(file, methods):
     for node in file.walk(ast.FunctionDef):
         local = {part.id for part in ast.walk(node) if isinstance(part, ast.Name) and isinstance(part.ctx, ast.Store)}
         local |= {part.arg for part in ast.walk(node) if isinstance(part, ast.arg)}
+        local |= {part.name for part in ast.walk(node) if isinstance(part, ast.ExceptHandler)}
         for part in ast.walk(node):
             if isinstance(part, ast.Name) and part.id not in local | bound | BUILTINS:
                 file.fault(part, f"L8 {part.id}")
@@ -284,7 +302,8 @@ def check_classes(file, every):
             is_base = isinstance(around, ast.ClassDef)
             is_value = isinstance(around, ast.Attribute)
             is_asked = any(isinstance(one, ast.Call) and called_name(one) == "isinstance" for one in (around, further))
-            if not (is_called or is_base or is_value or is_asked):
+            is_caught = isinstance(around, ast.ExceptHandler)
+            if not (is_called or is_base or is_value or is_asked or is_caught):
                 file.fault(node, f"L18 {node.id}")
     for node in file.walk(ast.ClassDef):
         methods = [part.name for part in node.body if isinstance(part, ast.FunctionDef)]
