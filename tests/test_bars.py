@@ -42,7 +42,7 @@ class Keeps(Case):
         full = pair("deep")[0]
         self.assertIs(map_keeps(full, Book.read("a b : a same|deep a")), True)
         self.assertIs(map_keeps(full, Book.read("a b : b holdsdeep a / a deep a")), False)
-        self.assertIs(map_keeps(BAD, Book.read("a b c : a apart c / c holdsdeep|apart b")), True)
+        self.assertIs(map_keeps(BAD, Book.read("a b c : a apart c / c apart|holdsdeep b")), True)
 
     def test_errors(self):
         full = FAR[0]
