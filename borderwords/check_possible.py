@@ -1,9 +1,9 @@
 """Whether a value is a right paper of a book that is possible, or is not."""
 
 from borderwords.books import require_book
-from borderwords.fields import book_bits, field_of, lacks_of
-from borderwords.papers import is_just, is_own
-from borderwords.possible import Barred, Kept, words_taken
+from borderwords.papers import is_among, is_just, is_own
+from borderwords.possible import Barred, Kept
+from borderwords.readings import read_book, words_taken
 from borderwords.worlds import World
 
 
@@ -17,7 +17,12 @@ def shows_possible(book, value):
 
 def is_barred_by(book, value):
     """Whether any value is a right Barred of the book."""
-    return isinstance(value, Barred) and is_own(value, "Barred") and are_barred(book, value.rows)
+    return is_barred_of(read_book(book), value)
+
+
+def is_barred_of(told, value):
+    """Whether any value is a right Barred of a book, told by its readings."""
+    return isinstance(value, Barred) and is_own(value, "Barred") and are_barred(told, value.rows)
 
 
 def is_kept_by(book, value):
@@ -25,17 +30,16 @@ def is_kept_by(book, value):
     return isinstance(value, World) and value.lands == book.lands and book.first_broken(value) is None
 
 
-def are_barred(book, rows):
+def are_barred(told, rows):
     """Whether there is one right row for each choice, in order."""
-    if not isinstance(rows, tuple) or len(rows) != book.choices:
+    choices = told.choices()
+    if not isinstance(rows, tuple) or len(rows) != len(choices):
         return False
-    field = field_of(book.lands)
-    return all([is_barred(field, book.choice(number), row) for number, row in enumerate(rows)])
+    return all([is_barred(told, choice, row) for choice, row in zip(choices, rows)])
 
 
-def is_barred(field, single, row):
-    """Whether a row tells the words of this book of one word, and a need that no let border has."""
-    if not isinstance(row, tuple) or len(row) != 2 or not is_just(row[0], words_taken(single)):
+def is_barred(told, choice, row):
+    """Whether a row tells the words of this choice, and a need that no border has which it lets."""
+    if not isinstance(row, tuple) or len(row) != 2 or not is_just(row[0], words_taken(choice)):
         return False
-    let, needed = book_bits(field, single)
-    return any([is_just(row[1], need) for need in lacks_of(let, needed)])
+    return is_among(row[1], told.lacks(choice))

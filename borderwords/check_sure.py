@@ -1,16 +1,17 @@
 """Whether a value is a right paper of what is sure by a book, of the maps that it leaves, of what to ask."""
 
-from borderwords.asking import Asked, Known, Plan, answers_of, next_of, shortest_plan
+from borderwords.asking import Asked, Known, Plan, next_of, shortest_plan
 from borderwords.books import require_book
 from borderwords.brought import Breaks, Brought, Unbrought, require_bringing, unshown
-from borderwords.check_possible import is_barred_by, is_kept_by
-from borderwords.checks import pairs_of, require_lands
+from borderwords.check_possible import is_barred_of, is_kept_by
+from borderwords.checks import WORDS, is_within, is_word, pairs_of, require_lands
 from borderwords.fields import book_bits, borders_at, field_of, saying_bits, shown_by
 from borderwords.left import OneMap, SeveralMaps, map_of_words, words_had
-from borderwords.listed import maps_left
+from borderwords.listed import require_few_lands_told, rows_left
 from borderwords.maps import Map, map_of
 from borderwords.papers import is_among, is_just, is_own
-from borderwords.possible import possible
+from borderwords.possible import possible_by
+from borderwords.readings import read_book
 from borderwords.sayings import require_saying
 from borderwords.sure import Never, Open, Surely, require_room, sayings_against, sayings_for
 
@@ -36,7 +37,8 @@ def are_barreds(book, sayings, papers):
     """Whether there is, for each of these sayings, a right Barred of the book with this one behind."""
     if not isinstance(papers, tuple) or len(papers) != len(sayings):
         return False
-    return all([is_barred_by(book.with_saying(saying), paper) for saying, paper in zip(sayings, papers)])
+    told = read_book(book)
+    return all([is_barred_of(told.behind(saying), paper) for saying, paper in zip(sayings, papers)])
 
 
 def shows_brought(book, saying, value):
@@ -85,50 +87,80 @@ def shows_told(book, value):
 
 def is_only_map(book, full):
     """Whether the book is possible and leaves just this map."""
-    had = words_had(book)
-    if not possible(book) or not all([len(words) == 1 for one, other, words in had]):
-        return False
-    return full == map_of_words(book, had)
+    told = read_book(book)
+    had = words_had(book, told)
+    # A book that is not possible leaves no words.
+    return all([len(words) == 1 for one, other, words in had]) and bool(possible_by(told)) and (
+        full == map_of_words(book, had))
 
 
 def shows_asking(book, value):
     """Whether any value is the Known or the Asked of the book, or a right Plan for the maps that it leaves."""
-    require_book(book, "book")
-    maps = maps_left(book)
-    if len(maps) == 0:
-        return False
+    require_few_lands_told(book)
+    # Most values that are no right papers show it by themselves: the maps that are left are listed last.
     if isinstance(value, Plan) and is_own(value, "Plan"):
-        many, _ = shortest_plan(maps, pairs_of(book.lands))
-        return is_just(value.many, many) and does_for(value.tree, maps, many)
-    told = next_of(maps)
+        return is_plan(book, value)
     if isinstance(value, Known) and is_own(value, "Known"):
-        return isinstance(told, Known) and isinstance(value.full, Map) and value.full == told.full
-    if not isinstance(value, Asked) or not is_own(value, "Asked"):
+        return is_map_of(book, value.full) and rows_left(book) == [value.full.words]
+    if not isinstance(value, Asked) or not is_own(value, "Asked") or not is_asked_form(book, value):
         return False
-    return isinstance(told, Asked) and is_just(value.parts, told.parts)
+    rows = rows_left(book)
+    return len(rows) > 1 and is_just(value.parts, next_of(book.lands, rows).parts)
 
 
-def does_for(tree, maps, most):
-    """Whether any value is a plan of at most this length that does for these maps."""
+def is_map_of(book, value):
+    """Whether any value is a map of the lands of the book."""
+    return isinstance(value, Map) and value.lands == book.lands
+
+
+def is_asked_form(book, paper):
+    """Whether an Asked tells two lands of the book, and for each two lands a number, the least first for its own."""
+    pairs = pairs_of(book.lands)
+    most = paper.most
+    if not isinstance(most, tuple) or len(most) != len(pairs):
+        return False
+    if not all([isinstance(row, tuple) and len(row) == 3 and is_just(row[:2], pair) and is_within(row[2], 1, None)
+                for row, pair in zip(most, pairs)]):
+        return False
+    least = min([row[2] for row in most], default=0)
+    return any([is_just((paper.one, paper.other), row[:2]) for row in most if row[2] == least][:1])
+
+
+def is_plan(book, paper):
+    """Whether a Plan is right."""
+    pairs = pairs_of(book.lands)
+    if not is_within(paper.many, 0, len(pairs)):
+        return False
+    leaves = []
+    if not is_tree(book, paper.tree, [], paper.many, leaves):
+        return False
+    rows = rows_left(book)
+    # A plan whose maps each stand where its answers lead does for just these maps.
+    if sorted(leaves) != sorted(rows):
+        return False
+    many, _ = shortest_plan(rows, list(range(len(pairs))))
+    return paper.many == many
+
+
+def is_tree(book, tree, asked, most, leaves):
+    """Whether any value is a plan of at most this length whose maps have what was answered.
+
+    What was asked is pairs of a place and of a word; the words of the maps of the plan are put behind the leaves.
+    """
     if isinstance(tree, Map):
-        return len(maps) == 1 and tree == maps[0]
+        leaves.append(tree.words)
+        return tree.lands == book.lands and all([tree.words[at] == word for at, word in asked])
     if most == 0 or not isinstance(tree, tuple) or len(tree) != 3 or not isinstance(tree[2], tuple):
         return False
-    for one, other in pairs_of(maps[0].lands):
-        if is_just(tree[:2], (one, other)):
-            return do_branches(tree[2], answers_of(maps, one, other), most - 1)
+    for at, pair in enumerate(pairs_of(book.lands)):
+        if is_just(tree[:2], pair):
+            return are_branches(tree[2]) and all(
+                [is_tree(book, plan, asked + [(at, word)], most - 1, leaves) for word, plan in tree[2]])
     return False
 
 
-def do_branches(branches, answers, most):
-    """Whether there is for each answer, in order, a pair of its word and of a plan for the maps that it leaves."""
-    if len(branches) != len(answers):
+def are_branches(value):
+    """Whether any value is pairs, one at least, of a word and of what stands for it, in the order of WORDS."""
+    if len(value) == 0 or not all([isinstance(row, tuple) and len(row) == 2 and is_word(row[0]) for row in value]):
         return False
-    return all([is_branch(branch, word, left, most) for branch, (word, left) in zip(branches, answers)])
-
-
-def is_branch(branch, word, left, most):
-    """Whether any value is a pair of this word and of a plan for these maps."""
-    if not isinstance(branch, tuple) or len(branch) != 2:
-        return False
-    return is_just(branch[0], word) and does_for(branch[1], left, most)
+    return [row[0] for row in value] == [word for word in WORDS if word in [row[0] for row in value]]

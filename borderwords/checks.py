@@ -5,7 +5,6 @@ from borderwords.papers import fixed
 
 WORDS = ("apart", "meets", "overlaps", "same", "deep", "rim", "holdsdeep", "holdsrim")
 TURNED = {"deep": "holdsdeep", "holdsdeep": "deep", "rim": "holdsrim", "holdsrim": "rim"}
-LETTERS = "abcdefghijklmnopqrstuvwxyz"
 DIGITS = "0123456789"
 MOST_SIGNS = 12
 MOST_DIGITS = 60
@@ -43,7 +42,7 @@ def is_name(value):
     """Whether any value is a name."""
     if not isinstance(value, str) or not 1 <= len(value) <= MOST_SIGNS:
         return False
-    return value[0] in LETTERS and all([sign in LETTERS or sign in DIGITS for sign in value])
+    return value.isascii() and value.isalnum() and value == value.lower() and not value[0].isdigit()
 
 
 def is_list(value):

@@ -3,9 +3,10 @@
 from borderwords.books import require_plain_single
 from borderwords.checks import WORDS, pairs_of
 from borderwords.errors import Misfit
-from borderwords.fields import book_bits, field_of, is_possible_with, saying_bits, word_table
-from borderwords.maps import require_map, says_of
+from borderwords.fields import book_bits, field_of, is_possible_with, wanted_of, word_table
+from borderwords.maps import require_map
 from borderwords.possible import require_possible
+from borderwords.regions import Land
 
 
 def strongest(book):
@@ -13,13 +14,14 @@ def strongest(book):
     require_plain_single(book, "book")
     require_possible(book)
     field = field_of(book.lands)
-    told = book_bits(field, book)
+    let, needed = book_bits(field, book)
+    told = (let, wanted_of(needed))
     return tuple([(one, other, words_left(field, told, one, other)) for one, other in pairs_of(book.lands)])
 
 
 def words_left(field, told, one, other):
-    """The tuple of the words of two lands with which a book, told as by book_bits, is possible."""
-    table = word_table(field, one, other)
+    """The tuple of the words of two lands with which a book, told as for is_possible_with, is possible."""
+    table = word_table(field, Land(one), Land(other))
     return tuple([word for word in WORDS if is_possible_with(told, [table[word]])])
 
 
@@ -30,5 +32,6 @@ def fits_within(full, book):
     if not all([land in book.lands for land in full.lands]):
         raise Misfit("lands")
     field = field_of(book.lands)
-    more = [saying_bits(field, saying, 0) for saying in says_of(full)]
-    return is_possible_with(book_bits(field, book), more)
+    let, needed = book_bits(field, book)
+    more = [word_table(field, Land(one), Land(other))[full.table[one, other]] for one, other in pairs_of(full.lands)]
+    return is_possible_with((let, wanted_of(needed)), more)

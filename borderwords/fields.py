@@ -121,8 +121,15 @@ def book_bits(field, book):
 
 
 def word_table(field, one, other):
-    """For each word of two lands what saying_bits gives for the saying of it, under number 0."""
-    return {word: saying_bits(field, Says(Land(one), [word], Land(other)), 0) for word in WORDS}
+    """For each word of two regions the borders that it bars, and a list of those that have its needs, need by need."""
+    sides = field.sides(one), field.sides(other)
+    return {word: (barred_by(word, sides[0], sides[1]), wanted_of(needed_by(word, sides[0], sides[1], field.equal)))
+            for word in WORDS}
+
+
+def wanted_of(needed):
+    """Of needs, pairs of a need and of the borders that have it, the list of these borders, none of them twice."""
+    return list({bits: True for need, bits in needed})
 
 
 def shown_by(field, bits):
@@ -139,15 +146,26 @@ def lacks_of(let, needed):
 
 
 def is_possible_with(told, more):
-    """Whether a book, told as by book_bits, is possible with further sayings, told as by saying_bits."""
-    let, needed = told
+    """Whether a book of one word is possible with further sayings.
+
+    Of each it is told which borders it lets, or bars, and a list of those that have its needs, need by need.
+    """
+    let, wanted = told
     for barred, its in more:
         let = let & ~barred
-        needed = needed + its
-    for _, bits in needed:
+        wanted = wanted + its
+    for bits in wanted:
         if (let & bits) == 0:
             return False
     return True
+
+
+def is_left(choices, more):
+    """Whether one of these choices of a book is possible with further sayings, told as for is_possible_with."""
+    for told in choices:
+        if is_possible_with(told, more):
+            return True
+    return False
 
 
 def borders_at(field, bits):

@@ -3,8 +3,9 @@
 from borderwords.books import require_book, require_number, require_plain_single
 from borderwords.checks import turned_word
 from borderwords.papers import Denial, Paper
-from borderwords.possible import possible
-from borderwords.sure import Never, Surely, asked
+from borderwords.possible import possible_by, require_possible_by
+from borderwords.readings import read_book
+from borderwords.sure import Never, Surely, asked_by
 from borderwords.tables import words_by
 
 
@@ -28,13 +29,20 @@ def is_idle(book, number):
     """The Idle or the Needed of a saying of the book by its number."""
     require_book(book, "book")
     require_number(number, book)
-    rest = book.without([number])
-    told = asked(rest, book.sayings[number])
-    if isinstance(told, Surely):
-        return Idle(told.papers)
-    if isinstance(told, Never):
-        return Needed(possible(rest).world)
-    return Needed(told.other)
+    return idle_by(read_book(book), number, book.sayings[number])
+
+
+def idle_by(told, number, saying):
+    """As is_idle, of the readings of a book and of a saying of it."""
+    rest = told.but(number)
+    require_possible_by(rest)
+    # With less than ten sayings in the rest there is room for what is asked against it.
+    paper = asked_by(rest, saying)
+    if isinstance(paper, Surely):
+        return Idle(paper.papers)
+    if isinstance(paper, Never):
+        return Needed(possible_by(rest).world)
+    return Needed(paper.other)
 
 
 def idle_by_third(book, number):

@@ -7,7 +7,7 @@ from borderwords.errors import Impossible, Misfit, TooMany
 from borderwords.fields import Field, book_bits, borders_at, field_of, is_possible_with, row_of, word_table
 from borderwords.maps import require_map
 from borderwords.papers import Denial
-from borderwords.regions import require_region
+from borderwords.regions import Land, require_region
 from borderwords.tables import grown_cells, needed_borders, require_possible_map, words_by
 from borderwords.together import both_cells, passed_borders, together
 from borderwords.traces import cell_within, common_lands
@@ -61,7 +61,7 @@ def words_across(one, other, region, its):
         raise Impossible(told)
     field = field_of(("x", "y"))
     seen = seen_across(field, [(one, region, "x"), (other, its, "y")])
-    table = word_table(field, "x", "y")
+    table = word_table(field, Land("x"), Land("y"))
     return tuple([word for word in WORDS if is_possible_with(seen, [table[word]])])
 
 
@@ -110,7 +110,7 @@ def put_into(full, border):
 
 
 def seen_across(field, sides):
-    """What two books, possible together, let and need, told as by book_bits of a book of two lands x and y alone.
+    """What two books, possible together, let and need, told as for is_possible_with of two lands x and y alone.
 
     Each side is a book, a region of it, and the land that stands for the region. A border of all lands that
     both books let is told by what of the two regions lies over its cells: more does not bear on their word.
@@ -125,7 +125,7 @@ def seen_across(field, sides):
         own = Field(passed[at])
         _, its = book_bits(own, books[at])
         for need, had in its:
-            needed.append((need, crossed(bits, faces(borders_at(own, had), sides[at], lands), whole[1 - at])))
+            needed.append(crossed(bits, faces(borders_at(own, had), sides[at], lands), whole[1 - at]))
     return crossed(bits, whole[0], whole[1]), needed
 
 

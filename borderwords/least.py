@@ -2,11 +2,12 @@
 
 from borderwords.books import book_of, require_plain_single, require_single
 from borderwords.errors import Impossible, TooMany, Twice
-from borderwords.fields import book_bits, field_of, is_possible_with, saying_bits
-from borderwords.idle import is_idle
+from borderwords.fields import is_left, wanted_of
+from borderwords.idle import idle_by
 from borderwords.lots import has_lot, lots_of
 from borderwords.papers import Denial, Paper
-from borderwords.possible import require_possible
+from borderwords.possible import require_possible_by
+from borderwords.readings import read_book, readings_of
 from borderwords.sure import sayings_against
 
 MOST_SAYINGS = 6
@@ -32,29 +33,31 @@ def least_book(book):
     """The LeastBook of a plain book of one word that tells no two lands twice, and none to be the same."""
     require_plain_single(book, "book")
     require_told_once(book)
-    require_possible(book)
+    told = read_book(book)
+    require_possible_by(told)
     for saying in book.sayings:
         if len(saying.lands) == 2 and saying.words[0] == "same":
             raise Impossible(MustBeSame(saying.lands[0], saying.lands[1]))
-    papers = [is_idle(book, number) for number in range(len(book))]
+    papers = [idle_by(told, number, saying) for number, saying in enumerate(book.sayings)]
     numbers = [number for number, paper in enumerate(papers) if not paper]
-    return LeastBook(numbers, [paper if number in numbers else is_idle(lot_with(book, numbers, number), len(numbers))
-                               for number, paper in enumerate(papers)])
+    for number, saying in enumerate(book.sayings):
+        if number not in numbers:
+            papers[number] = idle_by(told.of_lot(numbers + [number]), len(numbers), saying)
+    return LeastBook(numbers, papers)
 
 
 def least_books(book):
     """The tuple of all least lots of a book of one word, in order."""
     require_single(book, "book")
-    require_possible(book)
+    told = read_book(book)
+    require_possible_by(told)
     if len(book) > MOST_SAYINGS:
         raise TooMany("sayings", MOST_SAYINGS)
-    field = field_of(book.lands)
-    against = [[saying_bits(field, one, number) for one in sayings_against(saying)]
-               for number, saying in enumerate(book.sayings)]
+    against = [against_told(told.field, saying) for saying in book.sayings]
     found = []
     for lot in lots_of(len(book)):
         # Whatever has a lot that tells all sayings tells them, too: so the least ones are those without any such.
-        if not has_lot(lot, found) and tells_all(book_bits(field, book_of(book, lot)), against):
+        if not has_lot(lot, found) and tells_all(told.of_lot(lot), [against[at] for at in others_of(lot, against)]):
             found.append(lot)
     return tuple(found)
 
@@ -74,6 +77,18 @@ def lot_with(book, lot, number):
     return book_of(book, lot).with_saying(book.sayings[number])
 
 
+def against_told(field, saying):
+    """The sayings against a saying of one word, each told as for is_possible_with."""
+    rows = [readings_of(field, one)[0] for one in sayings_against(saying)]
+    return [(barred, wanted_of(its)) for _, barred, its in rows]
+
+
+def others_of(lot, rows):
+    """The list of the numbers of the rows that a lot has not."""
+    return [number for number in range(len(rows)) if number not in lot]
+
+
 def tells_all(told, against):
-    """Whether a book, told as by book_bits, is possible with no saying against one of the sayings to be told."""
-    return not any([is_possible_with(told, [bits]) for row in against for bits in row])
+    """Whether a book of one word, told by its readings, is possible with no saying against one of those to be told."""
+    choices = told.possible_choices()
+    return not any([is_left(choices, [bits]) for rows in against for bits in rows])

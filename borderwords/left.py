@@ -2,11 +2,11 @@
 
 from borderwords.books import require_book
 from borderwords.checks import WORDS, pairs_of
-from borderwords.fields import field_of, word_table
-from borderwords.listed import choices_told, is_left
+from borderwords.fields import is_left, word_table
 from borderwords.maps import Map
 from borderwords.papers import Denial, Paper
-from borderwords.possible import possible, require_possible
+from borderwords.possible import possible_by, require_possible_by
+from borderwords.readings import read_book
 from borderwords.regions import Land
 from borderwords.sayings import Says
 from borderwords.sure import require_room
@@ -30,32 +30,36 @@ class SeveralMaps(Denial):
 
 def told_words(book):
     """The tuple of the two lands, in order, that have one and the same word in all worlds, each with this word."""
-    require_book(book, "book")
-    require_possible(book)
-    require_room(book)
-    return tuple([(one, other, words[0]) for one, other, words in words_had(book) if len(words) == 1])
+    told = read_with_room(book)
+    return tuple([(one, other, words[0]) for one, other, words in words_had(book, told) if len(words) == 1])
 
 
 def map_told(book):
     """The OneMap of the book, or a SeveralMaps."""
-    require_book(book, "book")
-    require_possible(book)
-    require_room(book)
-    had = words_had(book)
+    told = read_with_room(book)
+    had = words_had(book, told)
     for one, other, words in had:
         if len(words) > 1:
-            papers = [possible(book.with_saying(Says(Land(one), [word], Land(other)))) for word in words[:2]]
+            papers = [possible_by(told.behind(Says(Land(one), [word], Land(other)))) for word in words[:2]]
             return SeveralMaps(papers[0].world, papers[1].world)
     return OneMap(map_of_words(book, had))
 
 
-def words_had(book):
-    """For each two lands of the book, in order, the list of the words that they have in worlds that keep it."""
-    field = field_of(book.lands)
-    choices = choices_told(field, book)
+def read_with_room(book):
+    """The readings of a possible book; what the functions of this file raise of it."""
+    require_book(book, "book")
+    told = read_book(book)
+    require_possible_by(told)
+    require_room(book)
+    return told
+
+
+def words_had(book, told):
+    """For each two lands of a book, in order, the list of the words that they have in worlds that keep it."""
+    choices = told.possible_choices()
     had = []
     for one, other in pairs_of(book.lands):
-        table = word_table(field, one, other)
+        table = word_table(told.field, Land(one), Land(other))
         had.append((one, other, [word for word in WORDS if is_left(choices, [table[word]])]))
     return had
 

@@ -2,7 +2,7 @@
 
 from borderwords.books import Book, require_plain_single
 from borderwords.checks import (
-    are_name_pairs, are_names, are_words, is_list, item_at, is_word, lands_from, new_names, pairs_of, require_end,
+    TURNED, are_name_pairs, are_names, are_words, is_list, item_at, is_word, lands_from, new_names, pairs_of, require_end,
     require_land, require_lands, require_unlike, text_items, turned_word)
 from borderwords.errors import BadBook, BadMap, BadText, BadWord, TooMany
 from borderwords.looks import word_here
@@ -19,19 +19,24 @@ class Map:
     def __init__(self, lands, words):
         if not are_names(lands) or len(lands) == 0:
             raise BadMap("lands")
-        require_unlike(lands)
+        if len(set(lands)) < len(lands):
+            require_unlike(lands)
         if not are_words(words):
             raise BadWord("words")
         if len(words) != pairs_among(len(lands)):
             raise BadMap("words")
         if len(lands) > MOST_LANDS:
             raise TooMany("lands", MOST_LANDS)
+        pairs = pairs_of(lands)
         self.lands = tuple(sorted(lands))
         self.table = {(land, land): "same" for land in lands}
-        for (one, other), word in zip(pairs_of(lands), words):
+        for (one, other), word in zip(pairs, words):
             self.table[one, other] = word
-            self.table[other, one] = turned_word(word)
-        self.words = tuple([self.table[pair] for pair in pairs_of(self.lands)])
+            self.table[other, one] = TURNED.get(word, word)
+        # Most maps are made of ascending lands: their words stand in order already.
+        if self.lands != tuple(lands):
+            pairs = pairs_of(self.lands)
+        self.words = tuple([self.table[pair] for pair in pairs])
 
     def __eq__(self, other):
         return isinstance(other, Map) and self.lands == other.lands and self.words == other.words

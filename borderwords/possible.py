@@ -2,9 +2,9 @@
 
 from borderwords.books import require_book
 from borderwords.errors import Impossible
-from borderwords.fields import book_bits, field_of, lacks_of, rows_with
+from borderwords.fields import rows_with
 from borderwords.papers import Denial, Paper
-from borderwords.sayings import Says
+from borderwords.readings import read_book, words_taken
 from borderwords.worlds import World
 
 
@@ -27,25 +27,28 @@ class Barred(Denial):
 def possible(book):
     """The Kept of some world that keeps the book, or the Barred of the first need in each row."""
     require_book(book, "book")
-    field = field_of(book.lands)
+    return possible_by(read_book(book))
+
+
+def possible_by(told):
+    """As possible, of the readings of a book."""
     rows = []
-    for number in range(book.choices):
-        single = book.choice(number)
-        let, needed = book_bits(field, single)
-        lacks = lacks_of(let, needed)
-        if len(lacks) == 0:
-            return Kept(World(rows_with(field, let, needed)))
-        rows.append((words_taken(single), lacks[0]))
+    for row in told.choices():
+        let = told.let_by(row)
+        lack = told.first_lack(let, row)
+        if lack is None:
+            return Kept(World(rows_with(told.field, let, told.needed_by(row))))
+        rows.append((words_taken(row), lack))
     return Barred(rows)
 
 
 def require_possible(book):
     """Raise Impossible for a book that no world keeps."""
-    paper = possible(book)
+    require_possible_by(read_book(book))
+
+
+def require_possible_by(told):
+    """As require_possible, of the readings of a book."""
+    paper = possible_by(told)
     if not paper:
         raise Impossible(paper)
-
-
-def words_taken(single):
-    """The words of a book of one word, one for each Says in order."""
-    return tuple([saying.words[0] for saying in single.sayings if isinstance(saying, Says)])

@@ -56,8 +56,8 @@ def words_left(sized, one, other):
     require_lands(one.lands, sized.book.lands)
     require_lands(other.lands, sized.book.lands)
     scale = possible_scale(sized)
-    words = [word for word in WORDS if is_left(scale, Says(one, [word], other))]
-    if is_left(scale, Nowhere(one)) or is_left(scale, Nowhere(other)):
+    words = [word for word in WORDS if is_possible_behind(scale, Says(one, [word], other))]
+    if is_possible_behind(scale, Nowhere(one)) or is_possible_behind(scale, Nowhere(other)):
         words.append("nowhere")
     return tuple(words)
 
@@ -111,7 +111,7 @@ def denial_of(scale, lot):
     return None
 
 
-def is_left(scale, saying):
+def is_possible_behind(scale, saying):
     """Whether what a scale tells is possible with a saying of one word behind."""
     barred, its = saying_bits(scale.field, saying, len(scale.needed))
     further = scale.behind(barred, its)

@@ -3,10 +3,10 @@
 from borderwords.books import MOST_SAYINGS, require_book
 from borderwords.checks import WORDS, require_lands
 from borderwords.errors import BadSaying, TooMany
-from borderwords.fields import field_of, saying_bits
-from borderwords.listed import choices_told, is_left
+from borderwords.fields import at_bits, is_left, word_table
 from borderwords.papers import Denial, Paper
-from borderwords.possible import possible, require_possible
+from borderwords.possible import possible_by, require_possible_by
+from borderwords.readings import read_book
 from borderwords.regions import require_region
 from borderwords.sayings import Nowhere, Says, require_saying
 
@@ -47,17 +47,31 @@ def asked(book, saying):
     require_book(book, "book")
     require_saying(saying, "saying")
     require_lands(saying.lands, book.lands)
-    require_possible(book)
+    told = read_book(book)
+    require_possible_by(told)
     require_room(book)
-    against = [possible(book.with_saying(one)) for one in sayings_against(saying)]
-    lacking = [paper for paper in against if paper]
-    if len(lacking) == 0:
+    return asked_by(told, saying)
+
+
+def asked_by(told, saying):
+    """As asked, of the readings of a possible book with less than ten sayings."""
+    against = papers_with(told, sayings_against(saying))
+    if not against[-1]:
         return Surely(against)
-    within = [possible(book.with_saying(one)) for one in sayings_for(saying)]
-    having = [paper for paper in within if paper]
-    if len(having) == 0:
+    within = papers_with(told, sayings_for(saying))
+    if not within[-1]:
         return Never(within)
-    return Open(having[0].world, lacking[0].world)
+    return Open(within[-1].world, against[-1].world)
+
+
+def papers_with(told, sayings):
+    """The papers of the book with each of these sayings behind, up to the first Kept."""
+    papers = []
+    for saying in sayings:
+        papers.append(possible_by(told.behind(saying)))
+        if papers[-1]:
+            break
+    return papers
 
 
 def strongest_of(book, one, other):
@@ -67,12 +81,13 @@ def strongest_of(book, one, other):
     require_region(other, "other")
     require_lands(one.lands, book.lands)
     require_lands(other.lands, book.lands)
-    require_possible(book)
+    told = read_book(book)
+    require_possible_by(told)
     require_room(book)
-    field = field_of(book.lands)
-    choices = choices_told(field, book)
-    words = [word for word in WORDS if is_left(choices, [saying_bits(field, Says(one, [word], other), 0)])]
-    if any([is_left(choices, [saying_bits(field, Nowhere(region), 0)]) for region in [one, other]]):
+    choices = told.possible_choices()
+    table = word_table(told.field, one, other)
+    words = [word for word in WORDS if is_left(choices, [table[word]])]
+    if any([is_left(choices, [(at_bits(told.field.sides(region)), [])]) for region in [one, other]]):
         words.append("nowhere")
     return tuple(words)
 

@@ -5,6 +5,7 @@ import importlib
 import itertools
 import pathlib
 import random
+import time
 import unittest
 
 from borderwords.books import Book
@@ -34,6 +35,17 @@ def odd_values():
     """Values that are no name, integer, word, list, or value of a class of the package."""
     return [None, True, False, 1.5, float("nan"), b"a", "", "A", "1a", "a b", "a-b", "twelveletters", {}, {"a": 1},
             {"a"}, object(), Odd(), int, len, [None], ([],)]
+
+
+def least_time(call, rounds=7, calls=20):
+    """The least time that some calls, one behind another, take: by rounds, so that other work bears less on it."""
+    found = []
+    for _ in range(rounds):
+        start = time.process_time()
+        for _ in range(calls):
+            call()
+        found.append(time.process_time() - start)
+    return min(found)
 
 
 class Case(unittest.TestCase):

@@ -11,10 +11,11 @@ from borderwords.maps import Map
 from borderwords.papers import Denial, Paper
 from borderwords.possible import possible
 from tests.support import (
-    EIGHT, Case, as_lists, below, bent, book_read, chances, is_exact, is_possible_by_definition, odd_values,
+    EIGHT, Case, as_lists, below, bent, book_read, chances, is_exact, is_possible_by_definition, least_time, odd_values,
     some_saying_text)
 from tests.test_sure import NO_BOOKS
 
+FOUR_EACH = "a b c : a apart|meets|overlaps|deep b / b meets|overlaps|deep|rim c"
 SLY = "a b c : a same|rim b / a overlaps|same|rim|holdsdeep c / b apart|deep|rim|holdsrim c"
 
 
@@ -223,6 +224,32 @@ class ShowsAsking(Case):
         for tree in plans_of_two(maps):
             met.append(self.agrees(long, Plan(2, tree)))
         self.assertGreater(met.count(True), 2)
+
+    def test_several_hundred_values(self):
+        """Right plans, bent ones and other values of the book of an issue, that of no sayings, and one of made regions."""
+        for text, most in ((FOUR_EACH, 500), ("a b c :", 60), ("a b c : + a b meets|deep c / a apart|deep|rim b", 150)):
+            book = Book.read(text)
+            maps = list(maps_left(book))
+            plan, told = asking_plan(book), next_asked(book)
+            pairs = list(itertools.combinations("abc", 2))
+            values = [Plan(many, asked_in_turn(maps, order)) for order in itertools.permutations(pairs)
+                      for many in (2, 3, 4)]
+            values += [Plan(2, tree) for tree in itertools.islice(plans_of_two(maps), 40)]
+            values += [Plan(many, tree) for many in (0, 1, 2, 3, 4, True, None) for tree in (plan.tree, 3, maps[0], ())]
+            values += list(itertools.islice(bent(told), 60)) + [told, plan, below(plan), below(told), Known(maps[0])]
+            rows = list(bent(plan))
+            values += rows[:most // 4] + rows[most // 4::max(1, len(rows) // most)] + odd_values()
+            met = [self.agrees(book, value) for value in values]
+            self.assertGreater(met.count(True), 2)
+            self.assertGreater(len(met), 200)
+
+    def test_values_that_show_themselves_wrong_are_not_looked_at_long(self):
+        """Sooner than the book is found possible, though 65 maps would be listed for a right plan."""
+        book = Book.read(FOUR_EACH)
+        wrong = [None, Plan(2, 3), Plan(2, asking_plan(book).tree[:2]), Asked("a", "b", ()), Known("a"), 3]
+        spent = [least_time(lambda value=value: shows_asking(book, value)) for value in wrong]
+        self.assertLess(max(spent), least_time(lambda: possible(book)))
+        self.assertLess(least_time(lambda: next_asked(book)), 10 * least_time(lambda: possible(book)))
 
     def test_other_maps(self):
         several, known = Book.read("a b : a deep|rim b"), Book.read("a b : a deep b")

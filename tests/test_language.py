@@ -25,7 +25,7 @@ STATEMENTS = (
 METHODS = set(
     "append clear copy count endswith extend find get index insert isalnum isalpha isdigit islower isspace isupper "
     "items join keys ljust lower lstrip partition pop remove replace reverse rfind rjust rpartition rsplit rstrip "
-    "setdefault split splitlines startswith strip update upper values zfill bit_length add discard".split())
+    "setdefault split splitlines startswith strip update upper values zfill bit_length add discard isascii".split())
 OWN_ERRORS = {"WordsError"}
 NO_NAMES = set(
     "register mro elements open input law version_info with_traceback add_note attrgetter breakpoint builtins compile "

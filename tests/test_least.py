@@ -4,15 +4,18 @@ import itertools
 
 from borderwords.books import Book
 from borderwords.check_least import shows_least
+from borderwords.closing import strongest
 from borderwords.errors import BadBook, Impossible, TooMany, Twice
 from borderwords.idle import Idle, Needed, is_idle
 from borderwords.least import LeastBook, MustBeSame, least_book, least_books
+from borderwords.listed import maps_left
 from borderwords.maps import Map, map_of
 from borderwords.papers import Denial, Paper
 from borderwords.possible import possible
 from borderwords.worlds import World
 from tests.support import (
-    EIGHT, Case, book_read, chances, is_possible_by_definition, odd_values, some_rows, some_saying_text, world_keeps)
+    EIGHT, Case, against_by_definition, barred_rows_by_definition, book_read, chances, is_possible_by_definition,
+    least_time, odd_values, some_rows, some_saying_text, world_keeps)
 from tests.test_idle import tell, without
 from tests.test_sure import NO_BOOKS
 
@@ -94,6 +97,41 @@ class OneLeast(Case):
             if "same" not in full.words:
                 many = many + len(texts) - len(self.right(full.lands, texts))
         self.assertGreater(many, 10)
+
+    def test_books_of_several_hundred_maps(self):
+        chance = chances(263)
+        maps = [full for many in (2, 3) for full in maps_left(Book(list("abc"[:many])))]
+        while len(maps) < 420:
+            world = World(some_rows(chance, "abcd", 4, 4))
+            if len(world.lands) == 4:
+                maps.append(map_of(world))
+        met = []
+        for full in maps:
+            if "same" in full.words:
+                with self.assertRaises(Impossible):
+                    least_book(full.as_book())
+                continue
+            texts = [str(saying) for saying in full.as_book().sayings]
+            met.append(len(texts) - len(self.right(full.lands, texts)))
+            self.papers_by_definition(full.lands, texts)
+        self.assertGreater(len(met), 300)
+        self.assertGreater(len([one for one in met if one > 0]), 50)
+
+    def papers_by_definition(self, lands, texts):
+        """Each Barred of each Idle has the first need that is lacking, by the sayings of the lot and one against it."""
+        paper = least_book(book_read(lands, texts))
+        for number, one in enumerate(paper.papers):
+            if type(one) is Idle:
+                against = against_by_definition(texts[number])
+                self.assertEqual(len(one.papers), len(against))
+                for barred, text in zip(one.papers, against):
+                    rows = barred_rows_by_definition(lands, taken(texts, paper.numbers) + [text])
+                    self.assertEqual(barred.rows, tuple((words, lacks[0]) for words, lacks in rows))
+
+    def test_in_a_short_time(self):
+        """Not many times what it takes to close the same book: before, each saying was asked against anew."""
+        book = Map(list("abcd"), ["overlaps"] * 6).as_book()
+        self.assertLess(least_time(lambda: least_book(book)), 12 * least_time(lambda: strongest(book)))
 
     def test_five_lands(self):
         texts = [f"{one} deep {other}" for one, other in itertools.combinations("abcde", 2)]
