@@ -49,7 +49,7 @@ def reached(full, stays=None):
     require_staying([full], [], stays)
     require_possible_map(full)
     ground = Ground(full.lands, stays)
-    return tuple(ground.maps_at(ground.led_to([ground.place_of(full)], {})))
+    return tuple(ground.maps_in(ground.led_to(ground.bit_of(full), 0)))
 
 
 def shortest(one, other, stays=None):
@@ -58,10 +58,8 @@ def shortest(one, other, stays=None):
     for full in [one, other]:
         require_possible_map(full)
     ground = Ground(one.lands, stays)
-    film = film_between(ground, one, other, {})
-    if film is None:
-        return NoFilm(ground.maps_at(ground.led_to([ground.place_of(one)], {})))
-    return film
+    film = film_between(ground, one, other, 0)
+    return NoFilm(ground.maps_in(ground.led_to(ground.bit_of(one), 0))) if film is None else film
 
 
 def passes(one, other, book, stays=None):
@@ -75,20 +73,20 @@ def passes(one, other, book, stays=None):
     barred = ground.keeping(book)
     film = film_between(ground, one, other, barred)
     if film is None:
-        return Passes(ground.maps_at(ground.led_to([ground.place_of(one)], barred)))
+        return Passes(ground.maps_in(ground.led_to(ground.bit_of(one), barred)))
     return Avoids(film)
 
 
 def film_between(ground, one, other, barred):
     """The first of the shortest Films from one map to another one by none that is barred, None if there is none."""
-    place, end = ground.place_of(one), ground.place_of(other)
-    many = {} if end in barred else ground.steps_to({end: 0}, barred)
-    if place not in many:
+    bit, end = ground.bit_of(one), ground.bit_of(other)
+    levels = ground.levels_to([end], barred)
+    if not any([bits & bit for bits in levels]):
         return None
-    row = [place]
+    row = [bit]
     while row[-1] != end:
-        row.append(ground.next_on(row[-1], many))
-    return Film([ground.maps_at([at])[0] for at in row])
+        row.append(ground.next_on(row[-1], levels))
+    return Film([ground.maps_in(bits)[0] for bits in row])
 
 
 def require_ends(one, other, stays):

@@ -79,10 +79,10 @@ def shows_shortest(one, other, value, stays=None):
         return False
     ground = Ground(one.lands, stays)
     if isinstance(value, NoFilm) and is_own(value, "NoFilm"):
-        return is_lot_around(ground, value.maps, one, other, {})
+        return is_lot_around(ground, value.maps, one, other, 0)
     if not is_film_between(ground, value, one, other):
         return False
-    return len(value.maps) == len(film_between(ground, one, other, {}).maps)
+    return len(value.maps) == len(film_between(ground, one, other, 0).maps)
 
 
 def shows_passes(one, other, book, value, stays=None):
@@ -114,32 +114,30 @@ def is_film_between(ground, value, one, other):
 
 def are_on(ground, maps):
     """Whether each of these maps is one of the ground."""
-    return all([full.lands == ground.lands and ground.place_of(full) is not None for full in maps])
+    return all([full.lands == ground.lands and ground.bit_of(full) != 0 for full in maps])
 
 
-def places_told(ground, value):
-    """The places of maps of the ground that any value tells, ascending, each once; None if it tells others."""
+def lot_told(ground, value):
+    """The maps of the ground that any value tells, ascending, each once, as bits; None if it tells others."""
     if not isinstance(value, tuple) or not all([isinstance(full, Map) for full in value]) or not are_on(ground, value):
         return None
-    places = [ground.place_of(full) for full in value]
-    if not all([places[at] < places[at + 1] for at in range(len(places) - 1)]):
+    bits = [ground.bit_of(full) for full in value]
+    if not all([bits[at] < bits[at + 1] for at in range(len(bits) - 1)]):
         return None
-    return places
+    return sum(bits)
 
 
-def is_closed(ground, places, barred):
-    """Whether each step from these places leads to one of them, or to a barred one."""
-    return all([its in places or its in barred for place in places for its in ground.places_by(place)])
+def is_closed(ground, lot, barred):
+    """Whether each step from these maps leads to one of them, or to a barred one."""
+    return (ground.by_step(lot) & ~lot & ~barred) == 0
 
 
 def is_lot_around(ground, value, one, other, barred):
-    """Whether any value is a lot, closed but for barred places, that has the one map, unless barred, not the other."""
-    places = places_told(ground, value)
-    if places is None or not is_closed(ground, places, barred) or any([place in barred for place in places]):
+    """Whether any value is a lot, closed but for barred maps, that has the one map, unless barred, not the other."""
+    lot = lot_told(ground, value)
+    if lot is None or (lot & (barred | ground.bit_of(other))) != 0:
         return False
-    if ground.place_of(one) not in barred and ground.place_of(one) not in places:
-        return False
-    return ground.place_of(other) not in places
+    return ((lot | barred) & ground.bit_of(one)) != 0 and is_closed(ground, lot, barred)
 
 
 def shows_history(days, value, stays=None):
@@ -170,14 +168,12 @@ def is_against_days(ground, days, paper):
     """Whether the day and the lots of a NoHistory are right."""
     if not is_within(paper.day, 0, len(days) - 1) or not isinstance(paper.lots, tuple):
         return False
-    lots = [places_told(ground, lot) for lot in paper.lots]
-    if len(lots) != paper.day or not all([lot is not None and is_closed(ground, lot, {}) for lot in lots]):
+    lots = [lot_told(ground, lot) for lot in paper.lots]
+    if len(lots) != paper.day or not all([lot is not None and is_closed(ground, lot, 0) for lot in lots]):
         return False
-    ahead = list(range(len(ground.rows)))
+    ahead = ground.every
     for day, lot in zip(days, lots):
-        keeping = ground.keeping(day)
-        if not all([place in lot for place in ahead if place in keeping]):
+        if (ahead & ground.keeping(day) & ~lot) != 0:
             return False
         ahead = lot
-    keeping = ground.keeping(days[paper.day])
-    return not any([place in keeping for place in ahead])
+    return (ahead & ground.keeping(days[paper.day])) == 0

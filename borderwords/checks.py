@@ -95,6 +95,14 @@ def pairs_of(values):
                   for at in range(len(values)) for behind in range(at + 1, len(values))])
 
 
+def rows_of(choices):
+    """All rows that have at each place one of those told for it, in order."""
+    rows = [()]
+    for choice in choices:
+        rows = [row + (one,) for row in rows for one in choice]
+    return rows
+
+
 def cell_key(cell):
     """What cells are ordered by."""
     return (len(cell), tuple(cell))

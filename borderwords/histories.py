@@ -6,7 +6,7 @@ from borderwords.checks import is_list
 from borderwords.errors import BadBook, TooMany
 from borderwords.films import Film
 from borderwords.papers import Denial, Paper
-from borderwords.steps import Ground
+from borderwords.steps import Ground, lowest_of
 
 MOST_DAYS = 6
 
@@ -33,11 +33,11 @@ def history(days, stays=None):
     ground = Ground(days[0].lands, stays)
     keeping = [ground.keeping(day) for day in days]
     lots = []
-    for number, places in enumerate(keeping):
-        here = [place for place in places if number == 0 or place in lots[-1]]
-        if len(here) == 0:
-            return NoHistory(number, [ground.maps_at(lot) for lot in lots])
-        lots.append(ground.led_to(here, {}))
+    for number, bits in enumerate(keeping):
+        here = bits if number == 0 else bits & lots[-1]
+        if here == 0:
+            return NoHistory(number, [ground.maps_in(lot) for lot in lots])
+        lots.append(ground.led_to(here, 0))
     return first_history(ground, keeping)
 
 
@@ -55,31 +55,29 @@ def require_days(days, stays):
 def first_history(ground, keeping):
     """The first of the shortest Histories, of which there is one."""
     tables = steps_left(ground, keeping)
-    least = min(list(tables[0].values()))
-    row = [min([place for place, left in tables[0].items() if left == least])]
+    row = [lowest_of([bits for bits in tables[0] if bits != 0][0])]
     at = []
     while len(at) < len(keeping):
-        if row[-1] in keeping[len(at)]:
+        if row[-1] & keeping[len(at)]:
             at.append(len(row) - 1)
         else:
             row.append(ground.next_on(row[-1], tables[len(at)]))
-    return History(Film([ground.maps_at([place])[0] for place in row]), at)
+    return History(Film([ground.maps_in(bits)[0] for bits in row]), at)
 
 
 def steps_left(ground, keeping):
-    """For each number of days that are done, what steps a film must still take at least from each place.
+    """For each number of days that are done, and each number of steps, the maps from which a film needs so many.
 
     At a map that keeps the next day this day is done at once: to wait makes no film shorter.
     """
-    tables = [{place: 0 for place in range(len(ground.rows))}]
-    for places in keeping[::-1]:
-        ahead = tables[-1]
-        tables.append(ground.steps_to({place: ahead[place] for place in places if place in ahead}, {}))
+    tables = [[ground.every]]
+    for bits in keeping[::-1]:
+        tables.append(ground.levels_to([bits & level for level in tables[-1]], 0))
     return tables[::-1]
 
 
 def fewest_maps(days, stays):
     """How many maps the film of a history of these days has at least, None if there is none."""
     ground = Ground(days[0].lands, stays)
-    table = steps_left(ground, [ground.keeping(day) for day in days])[0]
-    return 1 + min(list(table.values())) if len(table) > 0 else None
+    levels = steps_left(ground, [ground.keeping(day) for day in days])[0]
+    return min([1 + steps for steps, bits in enumerate(levels) if bits != 0], default=None)

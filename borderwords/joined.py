@@ -4,7 +4,7 @@ from borderwords.books import require_plain_single, require_single
 from borderwords.checks import WORDS, border_of, pairs_of, require_land, require_lands
 from borderwords.closing import strongest
 from borderwords.errors import Impossible, Misfit, TooMany
-from borderwords.fields import Field, book_bits, borders_at, field_of, is_possible_with, row_of, word_table
+from borderwords.fields import Field, book_bits, field_of, is_possible_with, row_of, wanted_of, word_table
 from borderwords.maps import require_map
 from borderwords.papers import Denial
 from borderwords.regions import Land, require_region
@@ -119,26 +119,30 @@ def seen_across(field, sides):
     lands = common_lands(books[0], books[1])
     bits = {border: 1 << at for at, border in enumerate(field.borders)}
     passed = passed_borders(books)
-    whole = [faces(passed[at], sides[at], lands) for at in range(2)]
+    views = [[view_of(border, sides[at], lands) for border in passed[at]] for at in range(2)]
+    whole = [faces(views[at], (1 << len(views[at])) - 1) for at in range(2)]
     needed = []
     for at in range(2):
-        own = Field(passed[at])
-        _, its = book_bits(own, books[at])
-        for need, had in its:
-            needed.append(crossed(bits, faces(borders_at(own, had), sides[at], lands), whole[1 - at]))
+        _, its = book_bits(Field(passed[at]), books[at])
+        for had in wanted_of(its):
+            needed.append(crossed(bits, faces(views[at], had), whole[1 - at]))
     return crossed(bits, whole[0], whole[1]), needed
 
 
-def faces(borders, side, lands):
-    """For each part of these borders for these lands, either cell ahead, the cells of the region's land alone."""
+def view_of(border, side, lands):
+    """The part of a border for these lands, either cell ahead, each with the cells of the region's land alone."""
     _, region, name = side
+    cells = [(cell_within(cell, lands), face_of(region, name, cell)) for cell in border]
+    return [((one[0], other[0]), (one[1], other[1])) for one, other in (cells, cells[::-1])]
+
+
+def faces(views, bits):
+    """For each part of these borders, told by their views, the cells of the region's land alone."""
     found = {}
-    for cell, its in borders:
-        for one, other in ((cell, its), (its, cell)):
-            part = (cell_within(one, lands), cell_within(other, lands))
-            if part not in found:
-                found[part] = {}
-            found[part][face_of(region, name, one), face_of(region, name, other)] = True
+    for at, view in enumerate(views):
+        if bits & (1 << at):
+            for part, face in view:
+                found.setdefault(part, {})[face] = True
     return found
 
 
@@ -149,10 +153,6 @@ def face_of(region, name, cell):
 
 def crossed(bits, found, others):
     """The bits of the borders of two lands that faces of one book and of another one with the same parts make."""
-    seen = {}
-    for part in found:
-        if part in others:
-            for cell, its in found[part]:
-                for one, other in others[part]:
-                    seen[border_of(tuple(sorted(cell + one)), tuple(sorted(its + other)))] = True
+    pairs = {(face, its): True for part in found if part in others for face in found[part] for its in others[part]}
+    seen = {border_of(both_cells(face[0], its[0]), both_cells(face[1], its[1])): True for face, its in pairs}
     return sum([bits[border] for border in seen])

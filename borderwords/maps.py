@@ -2,8 +2,8 @@
 
 from borderwords.books import Book, require_plain_single
 from borderwords.checks import (
-    TURNED, are_name_pairs, are_names, are_words, is_list, item_at, is_word, lands_from, new_names, pairs_of, require_end,
-    require_land, require_lands, require_unlike, text_items, turned_word)
+    TURNED, are_name_pairs, are_names, are_words, is_list, item_at, is_word, lands_from, new_names, pairs_of,
+    require_end, require_land, require_lands, require_unlike, text_items, turned_word)
 from borderwords.errors import BadBook, BadMap, BadText, BadWord, TooMany
 from borderwords.looks import word_here
 from borderwords.regions import Land

@@ -37,7 +37,7 @@ def possible_by(told):
         let = told.let_by(row)
         lack = told.first_lack(let, row)
         if lack is None:
-            return Kept(World(rows_with(told.field, let, told.needed_by(row))))
+            return Kept(World(rows_with(told.field, let, told.needed_of(row))))
         rows.append((words_taken(row), lack))
     return Barred(rows)
 

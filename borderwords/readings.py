@@ -1,9 +1,9 @@
 """Books told reading by reading: of each word of each saying, what it bars and needs, is looked at just once."""
 
+from borderwords.checks import rows_of
 from borderwords.fields import at_bits, barred_by, field_of, needed_by, wanted_of
 from borderwords.regions import Land
 from borderwords.sayings import Says
-from borderwords.threes import rows_of
 
 
 class Readings:
@@ -41,7 +41,7 @@ class Readings:
             let = let & ~barred
         return let
 
-    def needed_by(self, row):
+    def needed_of(self, row):
         """What a choice needs, in order: pairs of a need and of the borders that have it."""
         return self.base + [((kind, number), bits) for number, (_, _, its) in enumerate(row) for kind, bits in its]
 
@@ -59,7 +59,7 @@ class Readings:
     def lacks(self, row):
         """The list of all needs of a choice that no border has which it lets."""
         let = self.let_by(row)
-        return [need for need, bits in self.needed_by(row) if (let & bits) == 0]
+        return [need for need, bits in self.needed_of(row) if (let & bits) == 0]
 
     def possible_choices(self):
         """The choices that are possible, each told as for is_possible_with."""
@@ -67,7 +67,7 @@ class Readings:
         for row in self.choices():
             let = self.let_by(row)
             if self.first_lack(let, row) is None:
-                found.append((let, wanted_of(self.needed_by(row))))
+                found.append((let, wanted_of(self.needed_of(row))))
         return found
 
 

@@ -4,7 +4,7 @@ The table is told, not worked out: films and lists of maps ask it many thousand 
 row against what worlds show.
 """
 
-from borderwords.checks import WORDS, pairs_of, turned_word
+from borderwords.checks import WORDS, pairs_of, rows_of, turned_word
 
 BY_THIRD = {
     ("apart", "apart"): ("apart", "meets", "overlaps", "same", "deep", "rim", "holdsdeep", "holdsrim"),
@@ -77,14 +77,6 @@ BY_THIRD = {
 def is_three(word, its, third):
     """Whether some world has these words of x to y, of y to z, of x to z."""
     return third in BY_THIRD[word, its]
-
-
-def rows_of(choices):
-    """All rows that have at each place one of the words told for it, in order."""
-    rows = [()]
-    for words in choices:
-        rows = [row + (word,) for row in rows for word in words]
-    return rows
 
 
 def possible_rows(choices):
