@@ -10,7 +10,7 @@ from borderwords.papers import Denial
 from borderwords.regions import Land, require_region
 from borderwords.tables import grown_cells, needed_borders, require_possible_map, words_by
 from borderwords.together import both_cells, passed_borders, together
-from borderwords.traces import cell_within, common_lands
+from borderwords.traces import cell_parts, cell_within, common_lands
 from borderwords.worlds import World
 
 MOST_COMMON = 3
@@ -117,32 +117,32 @@ def seen_across(field, sides):
     """
     books = [book for book, region, name in sides]
     lands = common_lands(books[0], books[1])
-    bits = {border: 1 << at for at, border in enumerate(field.borders)}
     passed = passed_borders(books)
-    views = [[view_of(border, sides[at], lands) for border in passed[at]] for at in range(2)]
-    whole = [faces(views[at], (1 << len(views[at])) - 1) for at in range(2)]
+    views = [views_of(passed[at], sides[at], lands) for at in range(2)]
+    tables = [crossings(views[at], faces(views[1 - at])) for at in range(2)]
     needed = []
     for at in range(2):
         _, its = book_bits(Field(passed[at]), books[at])
-        for had in wanted_of(its):
-            needed.append(crossed(bits, faces(views[at], had), whole[1 - at]))
-    return crossed(bits, whole[0], whole[1]), needed
+        needed = needed + [bits_of_some(field, tables[at], had) for had in wanted_of(its)]
+    # Each border of all lands is seen from either side.
+    return bits_of_some(field, tables[0], (1 << len(passed[0])) - 1), needed
 
 
-def view_of(border, side, lands):
-    """The part of a border for these lands, either cell ahead, each with the cells of the region's land alone."""
+def views_of(borders, side, lands):
+    """For each border its part for these lands, either cell ahead, with the two cells of the region's land alone."""
     _, region, name = side
-    cells = [(cell_within(cell, lands), face_of(region, name, cell)) for cell in border]
-    return [((one[0], other[0]), (one[1], other[1])) for one, other in (cells, cells[::-1])]
+    parts = cell_parts(borders, lands)
+    face = {cell: face_of(region, name, cell) for cell in parts}
+    return [[((parts[one], parts[other]), (face[one], face[other])) for one, other in ((cell, its), (its, cell))]
+            for cell, its in borders]
 
 
-def faces(views, bits):
-    """For each part of these borders, told by their views, the cells of the region's land alone."""
+def faces(views):
+    """For each part that borders have, told by their views, a dict of the cells of the region's land alone there."""
     found = {}
-    for at, view in enumerate(views):
-        if bits & (1 << at):
-            for part, face in view:
-                found.setdefault(part, {})[face] = True
+    for view in views:
+        for part, face in view:
+            found.setdefault(part, {})[face] = True
     return found
 
 
@@ -151,8 +151,20 @@ def face_of(region, name, cell):
     return (name,) if region.covers(cell) else ()
 
 
-def crossed(bits, found, others):
-    """The bits of the borders of two lands that faces of one book and of another one with the same parts make."""
-    pairs = {(face, its): True for part in found if part in others for face in found[part] for its in others[part]}
-    seen = {border_of(both_cells(face[0], its[0]), both_cells(face[1], its[1])): True for face, its in pairs}
-    return sum([bits[border] for border in seen])
+def crossings(views, others):
+    """For each border of two lands the borders, as bits, that make it with one of the other book with the same part."""
+    found = {}
+    for at, view in enumerate(views):
+        for part, face in view:
+            for its in others.get(part, {}):
+                found[face, its] = found.get((face, its), 0) | (1 << at)
+    table = {}
+    for (face, its), bits in found.items():
+        border = border_of(both_cells(face[0], its[0]), both_cells(face[1], its[1]))
+        table[border] = table.get(border, 0) | bits
+    return table
+
+
+def bits_of_some(field, table, some):
+    """The bits of the borders of two lands that some of these borders make."""
+    return sum([1 << at for at, border in enumerate(field.borders) if table.get(border, 0) & some])

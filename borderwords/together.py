@@ -6,7 +6,7 @@ from borderwords.checks import is_list
 from borderwords.errors import BadBook, Misfit, TooMany
 from borderwords.fields import Field, book_bits, first_border, lacks_of, row_of
 from borderwords.papers import Denial, Paper
-from borderwords.traces import borders_fitting, cell_within, common_lands
+from borderwords.traces import borders_fitting, cell_parts, cell_within, common_lands
 from borderwords.worlds import World
 
 MOST_BOOKS = 6
@@ -100,10 +100,11 @@ def links_of(books, passed):
 
 def by_part(borders, lands):
     """The first of the borders, told as two cells either one ahead, for each two parts of cells for these lands."""
+    parts = cell_parts(borders, lands)
     found = {}
     for cell, its in borders:
         for one, other in ((cell, its), (its, cell)):
-            found.setdefault((cell_within(one, lands), cell_within(other, lands)), (one, other))
+            found.setdefault((parts[one], parts[other]), (one, other))
     return found
 
 

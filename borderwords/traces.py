@@ -46,5 +46,17 @@ def common_lands(one, other):
 
 def borders_fitting(borders, its, lands):
     """Those of the borders whose part for these lands is that of one of the others, its."""
-    parts = {border_within(border, lands): True for border in its}
-    return [border for border in borders if border_within(border, lands) in parts]
+    parts = {part: True for part in parts_within(its, lands)}
+    return [border for border, part in zip(borders, parts_within(borders, lands)) if part in parts]
+
+
+def parts_within(borders, lands):
+    """The list of the parts of these borders for these lands; of each cell the part is looked for just once."""
+    parts = cell_parts(borders, lands)
+    return [border_of(parts[cell], parts[its]) for cell, its in borders]
+
+
+def cell_parts(borders, lands):
+    """A dict from each cell of these borders to the cell without all other lands."""
+    cells = {cell: True for border in borders for cell in border}
+    return {cell: cell_within(cell, lands) for cell in cells}
