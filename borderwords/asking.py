@@ -104,6 +104,25 @@ def shortest_plan(rows, places):
     return best, tree
 
 
+def has_plan(rows, places, most):
+    """Whether a plan of at most this length, with questions at these places, does for maps told by their words."""
+    if len(rows) == 1 or most == 0:
+        return len(rows) == 1
+    for place in places:
+        further = [at for at in places if at != place]
+        if is_asked_first(rows, place, further, most):
+            return True
+    return False
+
+
+def is_asked_first(rows, place, further, most):
+    """Whether such a plan may begin with a question at this place, the others being asked at further ones."""
+    for _, left in answers_of(rows, place):
+        if not has_plan(left, further, most - 1):
+            return False
+    return True
+
+
 def tree_of(lands, tree):
     """The plan with the lands and the maps of these lands that its places and rows stand for."""
     if len(tree) == 2 and isinstance(tree[1], tuple):

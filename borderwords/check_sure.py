@@ -1,6 +1,6 @@
 """Whether a value is a right paper of what is sure by a book, of the maps that it leaves, of what to ask."""
 
-from borderwords.asking import Asked, Known, Plan, next_of, shortest_plan
+from borderwords.asking import Asked, Known, Plan, has_plan, next_of
 from borderwords.books import require_book
 from borderwords.brought import Breaks, Brought, Unbrought, require_bringing, unshown
 from borderwords.check_possible import is_barred_of, is_kept_by
@@ -132,31 +132,30 @@ def is_plan(book, paper):
     if not is_within(paper.many, 0, len(pairs)):
         return False
     leaves = []
-    if not is_tree(book, paper.tree, [], paper.many, leaves):
+    if not is_tree(pairs, paper.tree, [], paper.many, leaves):
+        return False
+    if not all([full.lands == book.lands for full in leaves]):
         return False
     rows = rows_left(book)
-    # A plan whose maps each stand where its answers lead does for just these maps.
-    if sorted(leaves) != sorted(rows):
+    # A plan whose maps each stand where its answers lead does for just these maps: no two of them are equal.
+    if len(leaves) != len(rows) or set([full.words for full in leaves]) != set(rows):
         return False
-    many, _ = shortest_plan(rows, list(range(len(pairs))))
-    return paper.many == many
+    return paper.many == 0 or not has_plan(rows, list(range(len(pairs))), paper.many - 1)
 
 
-def is_tree(book, tree, asked, most, leaves):
-    """Whether any value is a plan of at most this length whose maps have what was answered.
+def is_tree(pairs, tree, asked, most, leaves):
+    """Whether any value is a plan of at most this length whose maps have what was answered to questions of these pairs.
 
-    What was asked is pairs of a place and of a word; the words of the maps of the plan are put behind the leaves.
+    What was asked is two lands with a word each; the maps of the plan are put behind the leaves.
     """
     if isinstance(tree, Map):
-        leaves.append(tree.words)
-        return tree.lands == book.lands and all([tree.words[at] == word for at, word in asked])
+        leaves.append(tree)
+        return all([tree.table.get(pair) == word for pair, word in asked])
     if most == 0 or not isinstance(tree, tuple) or len(tree) != 3 or not isinstance(tree[2], tuple):
         return False
-    for at, pair in enumerate(pairs_of(book.lands)):
-        if is_just(tree[:2], pair):
-            return are_branches(tree[2]) and all(
-                [is_tree(book, plan, asked + [(at, word)], most - 1, leaves) for word, plan in tree[2]])
-    return False
+    if not is_among(tree[:2], pairs) or not are_branches(tree[2]):
+        return False
+    return all([is_tree(pairs, plan, asked + [(tree[:2], word)], most - 1, leaves) for word, plan in tree[2]])
 
 
 def are_branches(value):
