@@ -150,6 +150,7 @@ class OfFilms(Case):
                 self.assertEqual(step_worlds(film_of(maps)), found)
         six = [Map(list("abcdef"), [word] * 15) for word in ("deep", "rim")]
         self.refused(TooMany("lands", 5), step_worlds, film_of(six))
+        self.refused(TooMany("lands", 5), step_worlds, film_of(six[:1]))
         self.assertEqual(ways_of(film_of(six)), ("to",))
 
     def test_part_film(self):

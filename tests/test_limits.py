@@ -193,9 +193,12 @@ class Limits(Case):
         fine = Map(list("abcd"), ["same"] * 6)
         other = Map(list("abcd"), ["deep", "deep", "deep", "holdsdeep", "holdsdeep", "apart"])
         self.refused(Impossible(by_threes(BENT)), limit, BENT, other)
+        self.refused(Impossible(by_threes(BENT)), limit, BENT, fine)
+        self.refused(Impossible(by_threes(BENT)), limit, fine, BENT)
         self.refused(Impossible(by_threes(other)), limit, fine, other)
         six, bent = Map(list("abcdef"), ["deep"] * 15), Map(list("abcdef"), ["deep"] * 14 + ["apart"])
         self.refused(TooMany("lands", 5), limit, six, six)
+        self.refused(TooMany("lands", 5), limit, six, Map(list("abcdef"), ["apart"] * 15))
         self.refused(Impossible(by_threes(bent)), limit, six, bent)
 
     def test_papers(self):
