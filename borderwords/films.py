@@ -98,7 +98,7 @@ def fewest_ways(one, other):
                 return ways
         rows = [ways + (way,) for ways in rows for way in ("to", "from")]
     # By as many ways, one the other way about than the one ahead, each word becomes each other one.
-    return [ways for ways in rows if all([end in words_by_ways(start, ways) for start, end in pairs])][0]
+    return [row for row in rows if all([end in words_by_ways(start, row) for start, end in pairs])][0]
 
 
 def require_maps(maps):
