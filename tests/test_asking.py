@@ -243,6 +243,30 @@ class ShowsAsking(Case):
             self.assertGreater(met.count(True), 2)
             self.assertGreater(len(met), 200)
 
+    def test_branches_for_answers_that_nobody_gives(self):
+        """Whatever stands in a branch too many, the plan is none."""
+        book = Book.read("a b : a deep|rim b")
+        deep, rim = maps_left(book)
+        branches = (("deep", deep), ("rim", rim))
+        self.assertTrue(self.agrees(book, Plan(1, ("a", "b", branches))))
+        for junk in (None, (), 3, deep, ("a", "b", ()), ("a", "c", branches), ("a", "b", branches), ("a", "b"), "ab",
+                     ("a", "b", (("same", deep),)), ("a", "b", ((("same", None),),)), Map.read("a b : same")):
+            for many in (1, 2):
+                for at, word in ((0, "meets"), (1, "deep"), (2, "holdsdeep"), (2, "x")):
+                    value = Plan(many, ("a", "b", branches[:at] + ((word, junk),) + branches[at:]))
+                    self.assertFalse(self.agrees(book, value))
+
+    def test_maps_of_other_lands(self):
+        book = Book.read("a b : a deep b")
+        away = Map.read("a c : deep")
+        self.assertFalse(self.agrees(book, Plan(0, away)))
+        self.assertFalse(self.agrees(book, Known(away)))
+        self.assertTrue(self.agrees(book, Plan(0, Map.read("a b : deep"))))
+        self.assertFalse(self.agrees(Book(["a"]), Plan(0, Map(["b"], []))))
+        book = Book.read("a b : a deep|rim b")
+        tree = ("a", "b", (("deep", Map.read("a b : deep")), ("rim", Map.read("a c : rim"))))
+        self.assertFalse(self.agrees(book, Plan(1, tree)))
+
     def test_values_that_show_themselves_wrong_are_not_looked_at_long(self):
         """Sooner than the book is found possible, though 65 maps would be listed for a right plan."""
         book = Book.read(FOUR_EACH)

@@ -66,6 +66,11 @@ class ShowsFilm(Agreeing):
         for step in (True, False, 2.0, "2", None):
             self.agrees(shows_film, is_right_film, (maps,), Leap(step, None, None))
 
+    def test_films_that_leap(self):
+        for words in (("deep", "meets"), ("deep", "deep"), ("deep", "rim", "rim"), ("deep", "rim", "deep")):
+            maps = pair(*words)
+            self.assertEqual(self.agrees(shows_film, is_right_film, (maps,), Film(maps)), words == ("deep", "rim", "deep"))
+
     def test_not_possible(self):
         for maps in ([BENT], [BENT, BENT]):
             for value in (Film(maps), Leap(0, None, None)):
@@ -125,6 +130,12 @@ class ShowsSteps(Agreeing):
         self.assertIs(shows_steps(film, [["from", World.read("b a+b b -"), [[0, 1, 3]]],
                                          ["from", World.read("b a+b a -"), [[0, 1, 3]]]]), False)
 
+    def test_a_world_of_another_map(self):
+        """What is left has the right map, but the world itself has it, too."""
+        film = film_of(pair("deep", "rim"))
+        self.assertIs(shows_steps(film, [["to", World.read("b a+b -"), [[0, 1, 2]]]]), False)
+        self.assertIs(shows_steps(film, [["to", World.read("b a+b b -"), [[0, 1, 3]]]]), True)
+
     def test_of_one_map(self):
         for value, wanted in (((), True), ([], True), (None, False), ([None], False), ({}, False), ("", False)):
             self.assertIs(shows_steps(value=value, film=film_of(FAR[:1])), wanted)
@@ -173,6 +184,16 @@ class ShowsShortest(Agreeing):
                         self.assertIs(shows_shortest(full[one], full[other], value, stays), wanted)
                         met.append(wanted)
         self.assertGreater(met.count(True), 1)
+
+    def test_maps_of_other_lands(self):
+        """They have the same words, but are no maps of these lands."""
+        one, other, stays = pair("deep", "apart") + [book_by("deep|apart")]
+        self.assertIs(shows_shortest(one, other, NoFilm([one]), stays), True)
+        away = one.renamed([("a", "c")])
+        self.assertIs(shows_shortest(one, other, NoFilm([away]), stays), False)
+        self.assertIs(shows_passes(one, other, book_by("meets"), Passes([away]), stays), False)
+        self.assertIs(shows_passes(one, other, book_by("meets"), Passes([one]), stays), True)
+        self.assertIs(shows_history([book_by("deep")], History(Film([away]), [0])), False)
 
     def test_longer_films(self):
         one, other = FAR[0], FAR[2]
@@ -289,6 +310,10 @@ class ShowsHistory(Agreeing):
                     met.append(is_right_history(days, None, value))
                     self.assertIs(shows_history(days, value), met[-1])
         self.assertEqual(met.count(True), 1)
+        there = [book_by(words) for words in ("overlaps", "same", "overlaps")]
+        for at in itertools.product(range(3), repeat=3):
+            value = History(Film(pair("overlaps", "same", "overlaps")), at)
+            self.assertIs(shows_history(there, value), at == (0, 1, 2))
         days = days[:1] + [book_by("overlaps")]
         for words in itertools.product(EIGHT, repeat=2):
             for at in ((0, 1), (0, 0), (1, 1), (1, 0), (0, 2), (0,), (0, 1, 1)):
@@ -309,6 +334,10 @@ class ShowsHistory(Agreeing):
                 met.append(bool(is_right_history(days, stays, value)))
                 self.assertIs(shows_history(days, value, stays), met[-1])
         self.assertGreater(met.count(True), 0)
+        some = reached(full["apart"], stays)
+        self.assertIs(shows_history(days[:2], NoHistory(2, [some, some]), stays), False)
+        self.assertIs(shows_history(days[:2], NoHistory(3, [some, some, some]), stays), False)
+        self.assertIs(shows_history(days, NoHistory(-1, []), stays), False)
 
     def test_errors(self):
         days = [book_by("deep"), book_by("rim")]

@@ -128,6 +128,24 @@ class Checks(Case):
         for world, lengths in (("a+c / b+c", [[1], [1]]), ("a+c b+c", [[1, 1]]), ("a+c", [[1]])):
             self.agrees(shows_sized_row, is_right_sized_row, (told,), SizedRow(World.read(world), lengths))
 
+    def test_what_falls_away(self):
+        """A lot from which nothing is barred falls apart in two; of another one a joined part is left alone."""
+        two = Told("ab", ["a deep b"], [(False, [("a", 1), ("b", -1)])])
+        cells, left = [[], ["b"], ["a", "b"]], [[], ["a", "b"]]
+        last = [[[[]], [0], ("land", "a")], [[["a", "b"]], [0], ("beyond", 0)]]
+        rows = [[[cells, [1], None]] + last, [[cells, [1], None], [left, [0], None]] + last,
+                [[cells, [1], ("beyond", 0)]], [[cells, [0], None]] + last, [[cells, [1], None], last[1]],
+                [[cells, [0], None], [cells, [1], ("beyond", 0)]], [[cells, [1], None], [left, [0], None], last[0]]]
+        met = [self.agrees(shows_sized_row, is_right_sized_row, (two,), NoSizedRow(row)) for row in rows]
+        self.assertEqual(met, [True, True, True, False, False, False, False])
+        one = Told("ab", [], [(False, [("a", -1)])])
+        cells, left = [[], ["a"], ["b"], ["a", "b"]], [[], ["b"]]
+        last = [left, [0], ("land", "a")]
+        rows = [[[cells, [1], None], last], [[cells, [1], None]], [[cells, [1], None], [left, [5], None], last],
+                [[cells, [1], None], [left, [0], None], last], [[cells, [1], None], last, [[], [0], ("one", 1)]]]
+        met = [self.agrees(shows_sized_row, is_right_sized_row, (one,), NoSizedRow(row)) for row in rows]
+        self.assertEqual(met, [True, False, False, False, False])
+
     def test_share(self):
         for told in self.some(446, 4):
             if len(told.lands) > 1 and possible_sized(told.sized()):
@@ -144,7 +162,9 @@ class Checks(Case):
                 Neared(1, 2, *paper.high.parts[2:]), Neared(0, 1, [0, 1], [(("b",), 1)], paper.high.no),
                 Endless([(("b",), 1)]), Reached(1, 2, [2, 2], *paper.low.parts[3:]), Reached(1, 2, (1, 0), *paper.low.parts[3:])]
         highs = [Endless([]), Endless([(("a", "b"), 1)]), Endless([((), 1)]), paper.low, Endless([(("a",), 1)]),
-                 Neared(1, 1, [0, 7], *paper.high.parts[3:]), Neared(1, 1, *paper.high.parts[2:4], NotAbove(0, [0, 1]))]
+                 Neared(1, 1, [0, 7], *paper.high.parts[3:]), Neared(1, 1, *paper.high.parts[2:4], NotAbove(0, [0, 1])),
+                 Neared(1, 1, *paper.high.parts[2:4], NotAbove(1, paper.high.weights)),
+                 Neared(1, 1, *paper.high.parts[2:4], AgainstNeed(("beyond", 0), paper.high.weights))]
         for low in lows + [paper.low]:
             for high in highs + [paper.high]:
                 value = Share(low, high, paper.world, paper.lengths)

@@ -80,6 +80,12 @@ class Lines(Case):
         self.refused(BadText(0, 2), read_line, "strike x")
         self.refused(BadText(0, 5), read_line, "vanish x 0 1 2 3")
 
+    def test_lands_ascend(self):
+        for line, item in (("book n b a", 3), ("book n a a", 3), ("book n a c b d", 4), ("book n a b c b", 5), ("book n", 2),
+                           ("book n A", 2), ("book n a b+c", 3), ("book n a ", 3)):
+            self.refused(BadText(0, item), read_line, line)
+        self.assertEqual(read_line("book n a a1 b"), ("book", "n", "a", "a1", "b"))
+
     def test_whole_worlds(self):
         """Only the whole shows that there is no land: so the last item cannot stand."""
         self.refused(BadText(0, 2), read_line, "world n -")
