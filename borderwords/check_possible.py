@@ -32,7 +32,7 @@ def is_kept_by(book, value):
 
 def are_barred(told, rows):
     """Whether there is one right row for each choice, in order."""
-    choices = told.choices()
+    choices = told.choice_rows()
     if not isinstance(rows, tuple) or len(rows) != len(choices):
         return False
     return all([is_barred(told, choice, row) for choice, row in zip(choices, rows)])
@@ -42,4 +42,4 @@ def is_barred(told, choice, row):
     """Whether a row tells the words of this choice, and a need that no border has which it lets."""
     if not isinstance(row, tuple) or len(row) != 2 or not is_just(row[0], words_taken(choice)):
         return False
-    return is_among(row[1], told.lacks(choice))
+    return is_among(row[1], told.lacks_of(choice))

@@ -33,7 +33,7 @@ def possible(book):
 def possible_by(told):
     """As possible, of the readings of a book."""
     rows = []
-    for row in told.choices():
+    for row in told.choice_rows():
         let = told.let_by(row)
         lack = told.first_lack(let, row)
         if lack is None:

@@ -30,7 +30,7 @@ class Readings:
         """The readings of the book without this saying."""
         return Readings(self.field, self.base, self.sayings[:number] + self.sayings[number + 1:])
 
-    def choices(self):
+    def choice_rows(self):
         """All choices, in order."""
         return rows_of(self.sayings)
 
@@ -56,7 +56,7 @@ class Readings:
                     return (kind, number)
         return None
 
-    def lacks(self, row):
+    def lacks_of(self, row):
         """The list of all needs of a choice that no border has which it lets."""
         let = self.let_by(row)
         return [need for need, bits in self.needed_of(row) if (let & bits) == 0]
@@ -64,7 +64,7 @@ class Readings:
     def possible_choices(self):
         """The choices that are possible, each told as for is_possible_with."""
         found = []
-        for row in self.choices():
+        for row in self.choice_rows():
             let = self.let_by(row)
             if self.first_lack(let, row) is None:
                 found.append((let, wanted_of(self.needed_of(row))))
